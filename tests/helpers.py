@@ -1,0 +1,125 @@
+"""What several tests use: wrong values, plain ways to count maps, plans, and a check of refutations."""
+
+import itertools
+import time
+
+from justthese.worlds import World
+
+
+class Strange:
+    """A value of a class that no function of the package knows."""
+
+
+# No list of integers of any kind, and no object of the package.
+WRONG = [None, True, False, "", "0", "01", 0, 3, -1, 10**29, 1.5, b"01", {}, {0: 1}, range(2), Strange(), World]
+
+
+def raised(call, *args, **more):
+    """The class and the fields of the error that a call raises, or None."""
+    try:
+        call(*args, **more)
+    except ValueError as error:
+        return (type(error).__name__, *vars(error).values())
+    return None
+
+
+def timed(call, *args):
+    """The answer of a call and the seconds that it took."""
+    begun = time.monotonic()
+    answer = call(*args)
+    return answer, time.monotonic() - begun
+
+
+def plain_maps(world, other):
+    """All maps, by going through all rows of places."""
+    there = [set(rows) for rows in other.rows]
+    return tuple(
+        row
+        for row in itertools.product(range(other.many), repeat=world.many)
+        if all(tuple(row[x] for x in told) in there[k] for k, rows in enumerate(world.rows) for told in rows)
+    )
+
+
+def some_world(chance, lengths, many, most):
+    """A world with up to so many rows in each relation, by a seeded random source."""
+    rows = []
+    for length in lengths:
+        count = chance.randint(0, most)
+        rows.append([[chance.randrange(many) for _ in range(length)] for _ in range(count)])
+    return World(lengths, many, rows)
+
+
+def some_pairs(seed, times, largest, most):
+    """Pairs of small worlds with one signature."""
+    import random
+
+    chance = random.Random(seed)
+    for _ in range(times):
+        lengths = [chance.randint(1, 4) for _ in range(chance.randint(0, 3))]
+        world = some_world(chance, lengths, chance.randint(1, 4), chance.choice([1, 3, 6]))
+        yield world, some_world(chance, lengths, chance.randint(1, largest), chance.choice([4, 10, most]))
+
+
+def all_graphs(many):
+    """All worlds of so many places with one relation of length 2."""
+    pairs = list(itertools.product(range(many), repeat=2))
+    for size in range(len(pairs) + 1):
+        for rows in itertools.combinations(pairs, size):
+            yield World([2], many, [rows])
+
+
+def clique(many):
+    """The world in which each place is in a row with each other one."""
+    return World([2], many, [list(itertools.permutations(range(many), 2))])
+
+
+def ring(many):
+    """The world of a ring of places, each in a row with the next one, both ways about."""
+    rows = [(x, (x + 1) % many) for x in range(many)]
+    return World([2], many, [rows + [(y, x) for x, y in rows]])
+
+
+def spread_plan(world):
+    """The spread of a world: places, a knot for each row, a peg for each place."""
+    knots = [(k, row) for k, rows in enumerate(world.rows) for row in rows]
+    ahead = [sum(world.lengths[:k]) for k in range(len(world.lengths))]
+    rows = [[] for _ in range(sum(world.lengths) + 1)]
+    for number, (k, row) in enumerate(knots):
+        for index, place in enumerate(row):
+            rows[ahead[k] + index].append((world.many + number, place))
+    rows[-1] = [(world.many + len(knots) + place, place) for place in range(world.many)]
+    return World([2] * len(rows), 2 * world.many + len(knots), rows)
+
+
+def doubled_plan(world):
+    """The doubled plan of a world of lengths 1 and 2: fronts and backs."""
+    many = world.many
+    rows = [[(x, many + x) for x in range(many)]]
+    rows += [[(row[0], many + row[-1]) for row in told] for told in world.rows]
+    return World([2] * len(rows), 2 * many, rows)
+
+
+def refutes(world, other, refutation, left):
+    """Whether a refutation is right, where `left` tells what is left ahead of it."""
+    strikes, place, cases = refutation
+    left = [set(values) for values in left]
+    for at, value, relation, row, index in strikes:
+        if row not in world.rows[relation] or row[index] != at or value not in left[at]:
+            return False
+        for told in other.rows[relation]:
+            if told[index] == value and all(told[j] in left[row[j]] for j in range(len(row))):
+                return False
+        left[at].discard(value)
+    if not left[place]:
+        return cases == ()
+    if len(left[place]) < 2 or [value for value, _ in cases] != sorted(left[place]):
+        return False
+    return all(
+        refutes(world, other, case, left[:place] + [{value}] + left[place + 1 :]) for value, case in cases
+    )
+
+
+def strikes_of(refutation):
+    """How many strikes a refutation has, those in its cases counted."""
+    strikes, _, cases = refutation
+    return len(strikes) + sum(strikes_of(case) for _, case in cases)
