@@ -1,7 +1,7 @@
 """What functions ask of their arguments, each with the error that is told for it."""
 
-from justthese.checks import is_within
-from justthese.errors import BadNumber, BadWorld, Misfit
+from justthese.checks import is_code, is_row, is_within
+from justthese.errors import BadCode, BadMap, BadNumber, BadWorld, Misfit
 from justthese.worlds import World
 
 
@@ -9,6 +9,23 @@ def ask_number(value, part, least, most):
     """Raises unless a value is an integer from least to most."""
     if not is_within(value, least, most):
         raise BadNumber(part)
+
+
+def has_each_once(row):
+    """Whether no integer comes twice in a row of integers."""
+    return len(set(row)) == len(row)
+
+
+def ask_names(names, many):
+    """Raises unless names has each of so many places once."""
+    if not is_row(names, many, many) or not has_each_once(names):
+        raise BadMap("names")
+
+
+def ask_code(code):
+    """Raises unless a value is a code."""
+    if not is_code(code):
+        raise BadCode("code")
 
 
 def ask_world(value, part):

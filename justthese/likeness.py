@@ -1,22 +1,16 @@
 """Worlds renamed, parts of worlds, and two-way maps."""
 
-from justthese.asking import ask_world, ask_worlds
+from justthese.asking import ask_names, ask_world, ask_worlds, has_each_once
 from justthese.checks import is_row
 from justthese.errors import BadMap
 from justthese.maps import is_map
 from justthese.worlds import World
 
 
-def _has_each_once(row):
-    """Whether no integer comes twice in a row of integers."""
-    return len(set(row)) == len(row)
-
-
 def renamed(world, names):
     """The world in which place x is called names[x]."""
     ask_world(world, "world")
-    if not is_row(names, world.many, world.many) or not _has_each_once(names):
-        raise BadMap("names")
+    ask_names(names, world.many)
     rows = [[[names[place] for place in row] for row in told] for told in world.rows]
     return World(world.lengths, world.many, rows)
 
@@ -24,7 +18,7 @@ def renamed(world, names):
 def part_of(world, places):
     """The part of a world on some places; its place k is places[k]."""
     ask_world(world, "world")
-    if not is_row(places, None, world.many) or len(places) == 0 or not _has_each_once(places):
+    if not is_row(places, None, world.many) or len(places) == 0 or not has_each_once(places):
         raise BadMap("places")
     number = {place: k for k, place in enumerate(places)}
     rows = [
@@ -37,7 +31,7 @@ def part_of(world, places):
 def is_two_way(world, other, value):
     """Whether any value is a two-way map of a world into another one."""
     ask_worlds(world, other)
-    if world.many != other.many or not is_map(world, other, value) or not _has_each_once(value):
+    if world.many != other.many or not is_map(world, other, value) or not has_each_once(value):
         return False
     back = {place: k for k, place in enumerate(value)}
     return is_map(other, world, [back[place] for place in range(other.many)])

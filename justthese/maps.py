@@ -5,6 +5,8 @@ from justthese.bonds import merged_bonds
 from justthese.checks import is_row
 from justthese.errors import BadMap, Misfit, TooMany
 from justthese.fields import Field
+from justthese.joining import joined_rows
+from justthese.reaching import clusters_by
 
 MOST_MAPS = 1000
 MOST_OF_CLUSTER = 5000
@@ -41,21 +43,6 @@ def then(one, other):
     return tuple([other[place] for place in one])
 
 
-def _reached(place, beside, seen):
-    """All places to which one comes from a place; they are marked as seen."""
-    cluster = []
-    waiting = [place]
-    seen[place] = True
-    while waiting:
-        last = waiting.pop()
-        cluster.append(last)
-        for near in beside[last]:
-            if near not in seen:
-                seen[near] = True
-                waiting.append(near)
-    return tuple(sorted(cluster))
-
-
 def clusters(world):
     """The clusters of a world."""
     ask_world(world, "world")
@@ -66,40 +53,12 @@ def clusters(world):
             for place in row[1:]:
                 beside[row[0]].append(place)
                 beside[place].append(row[0])
-    found = []
-    seen = {}
-    for place in range(world.many):
-        if place not in seen:
-            found.append(_reached(place, beside, seen))
-    return tuple(found)
+    return clusters_by(beside)
 
 
 def field_of_maps(world, other):
     """The field whose rows of values are the maps of a world into another one."""
     return Field(world.many, other.many, merged_bonds(world, other))
-
-
-def _joined(many, parts):
-    """All rows of so many places; each of the parts is a cluster and the rows that it may get."""
-    base = [0] * many
-    open_parts = []
-    for cluster, told in parts:
-        if len(told) > 1:
-            open_parts.append((cluster, told))
-        else:
-            base = _with_part(base, cluster, told[0])
-    rows = [base]
-    for cluster, told in open_parts:
-        rows = [_with_part(row, cluster, part) for row in rows for part in told]
-    return rows
-
-
-def _with_part(row, cluster, part):
-    """A row with other values at the places of a cluster."""
-    changed = list(row)
-    for place, value in zip(cluster, part):
-        changed[place] = value
-    return changed
 
 
 def maps(world, other, most=300):
@@ -119,7 +78,7 @@ def maps(world, other, most=300):
         parts.append((cluster, told))
     if total > most:
         raise TooMany("maps", most)
-    return tuple(sorted([tuple(row) for row in _joined(world.many, parts)]))
+    return tuple(sorted([tuple(row) for row in joined_rows(world.many, parts)]))
 
 
 def count_maps(world, other):

@@ -1,7 +1,7 @@
-"""Strikes: which hold, and what is left behind them."""
+"""Strikes: which hold, what is left behind them, and whether a refutation made of them is right."""
 
 from justthese.bonds import masks_of
-from justthese.checks import is_row, is_within
+from justthese.checks import is_integer, is_row, is_within
 
 
 class Rest:
@@ -14,6 +14,7 @@ class Rest:
         self.masks = [masks_of(rows, length, other.many) for length, rows in zip(other.lengths, other.rows)]
         self.worths = [{value: True for value in range(other.many)} for _ in range(world.many)]
         self.passing = [{} for _ in range(world.many)]
+        self.gone = []
 
     def is_strike(self, value):
         """Whether any value has the form of a strike: a row of the world, and a place and a value there."""
@@ -52,10 +53,25 @@ class Rest:
     def strike(self, place, worth):
         """Takes a value away from a place."""
         del self.worths[place][worth]
+        self.gone.append((place, worth))
         kept = self.passing[place]
         for relation, slot in list(kept):
-            gone = self.masks[relation][slot][worth]
-            kept[(relation, slot)] = kept[(relation, slot)] & ~gone
+            kept[(relation, slot)] = kept[(relation, slot)] & ~self.masks[relation][slot][worth]
+
+    def back_to(self, many):
+        """Gives back all that was taken away behind the first so many."""
+        while len(self.gone) > many:
+            place, worth = self.gone.pop()
+            self.worths[place][worth] = True
+            kept = self.passing[place]
+            for relation, slot in list(kept):
+                kept[(relation, slot)] = kept[(relation, slot)] | self.masks[relation][slot][worth]
+
+    def leave_alone(self, place, alone):
+        """Takes all other values away from a place."""
+        for worth in list(self.worths[place]):
+            if worth != alone:
+                self.strike(place, worth)
 
     def strike_all(self, strikes):
         """Takes away what strikes tell, if any value is a list of strikes each of which holds; whether it is."""
@@ -70,3 +86,46 @@ class Rest:
     def left(self):
         """For each place the ascending tuple of the values that are left."""
         return tuple([tuple(sorted(worths)) for worths in self.worths])
+
+
+def _is_case(value, worth):
+    """Whether any value is a pair of just this worth and something else."""
+    if not isinstance(value, (list, tuple)) or len(value) != 2:
+        return False
+    return is_integer(value[0]) and value[0] == worth
+
+
+def _cases_of(rest, value):
+    """The place and the cases of any value that is right up to its cases, by what is left; None if it is not.
+
+    Its strikes are struck. What stands in the cases is not asked yet.
+    """
+    if not isinstance(value, (list, tuple)) or len(value) != 3:
+        return None
+    strikes, place, cases = value
+    if not rest.strike_all(strikes) or not is_within(place, 0, rest.world.many - 1):
+        return None
+    worths = sorted(rest.worths[place])
+    if not isinstance(cases, (list, tuple)) or len(worths) == 1 or len(cases) != len(worths):
+        return None
+    if not all([_is_case(case, worth) for case, worth in zip(cases, worths)]):
+        return None
+    return place, cases
+
+
+def is_refutation(rest, value):
+    """Whether any value is a refutation that begins with what is left."""
+    # No function calls itself here: refutations may be nested deeper than calls should be.
+    cases_of = _cases_of(rest, value)
+    if cases_of is None:
+        return False
+    waiting = [(len(rest.gone), cases_of[0], case) for case in cases_of[1]]
+    while waiting:
+        many, place, case = waiting.pop()
+        rest.back_to(many)
+        rest.leave_alone(place, case[0])
+        cases_of = _cases_of(rest, case[1])
+        if cases_of is None:
+            return False
+        waiting.extend([(len(rest.gone), cases_of[0], further) for further in cases_of[1]])
+    return True

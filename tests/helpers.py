@@ -1,8 +1,9 @@
-"""What several tests use: wrong values, plain ways to count maps, plans, and a check of refutations."""
+"""What several tests use: wrong values, plain ways to find maps and layings, plans, webs, a check of refutations."""
 
 import itertools
 import time
 
+from justthese.webs import Web
 from justthese.worlds import World
 
 
@@ -123,3 +124,100 @@ def strikes_of(refutation):
     """How many strikes a refutation has, those in its cases counted."""
     strikes, _, cases = refutation
     return len(strikes) + sum(strikes_of(case) for _, case in cases)
+
+
+def plain_layings(web, other):
+    """All layings, by going through all rows of places."""
+    near = {pair for low, high in other.ties for pair in ((low, high), (high, low))}
+    return tuple(
+        row
+        for row in itertools.product(range(other.many), repeat=web.many)
+        if all((row[low], row[high]) in near for low, high in web.ties)
+    )
+
+
+def stepwise_layings(web, other):
+    """All layings, place by place in the plain order; for webs whose first places are tied to one another."""
+    near = {pair for low, high in other.ties for pair in ((low, high), (high, low))}
+    behind = [[low for low, high in web.ties if high == place] for place in range(web.many)]
+    rows = [()]
+    for place in range(web.many):
+        rows = [
+            (*row, image)
+            for row in rows
+            for image in range(other.many)
+            if all((row[low], image) in near for low in behind[place])
+        ]
+    return tuple(rows)
+
+
+def all_webs(many):
+    """All webs of so many places."""
+    pairs = list(itertools.combinations(range(many), 2))
+    for size in range(len(pairs) + 1):
+        for ties in itertools.combinations(pairs, size):
+            yield Web(many, ties)
+
+
+def some_web(chance, many, share):
+    """A web in which about this share of all pairs are ties, by a seeded random source."""
+    return Web(many, [pair for pair in itertools.combinations(range(many), 2) if chance.random() < share])
+
+
+def full_web(many):
+    """The web with all ties."""
+    return Web(many, list(itertools.combinations(range(many), 2)))
+
+
+def path_web(many):
+    """The web of a path."""
+    return Web(many, [(x, x + 1) for x in range(many - 1)])
+
+
+def ring_web(many):
+    """The web of a ring."""
+    return Web(many, [(x, (x + 1) % many) for x in range(many)])
+
+
+def renamed_chain(many, step):
+    """A chain of triangles, each with a tie in common with the next one; places are renamed by steps."""
+    return Web(many, [(x * step % many, y * step % many) for x in range(many) for y in (x + 1, x + 2) if y < many])
+
+
+def woven_web(many, arrows, clasps):
+    """The web woven of a plan of so many places with these arrows (kind, from, to), by clasps."""
+    ties = []
+    places = many
+    for kind, first, last in sorted(set(arrows)):
+        clasp = clasps[kind]
+        there = {clasp.first: first, clasp.last: last}
+        for inner in clasp.inner:
+            there[inner] = places
+            places += 1
+        ties += [(there[low], there[high]) for low, high in clasp.web.ties]
+    return Web(places, ties)
+
+
+def some_arrows(chance, many, kinds, count):
+    """Arrows between so many places, each place on one at least."""
+    told = {(chance.randrange(kinds), x, (x + 1) % many) for x in range(0, many, 2)}
+    while len(told) < count:
+        told.add((chance.randrange(kinds), *chance.sample(range(many), 2)))
+    return sorted(told)
+
+
+def shuffled(chance, many):
+    """All of so many places in some order."""
+    names = list(range(many))
+    chance.shuffle(names)
+    return names
+
+
+def all_codes(letters):
+    """All codes of so many letters."""
+    return ["".join(told) for told in itertools.product("01", repeat=letters)]
+
+
+def spaced(code):
+    """Whether two letters 1 of a code are two or more letters apart, so that it does not touch."""
+    return code.rfind("1") - code.find("1") >= 2

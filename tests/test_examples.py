@@ -120,6 +120,150 @@ raises BadPaper('strikes')
 raises Misfit('other')
 """,
     ),
+    (
+        "check_maps",
+        r"""
+>>> by_zero = ([(1, 0, 0, (0, 1), 1), (2, 0, 0, (0, 2), 1), (2, 1, 0, (1, 2), 1)], 2, [])
+>>> by_one = ([(1, 1, 0, (0, 1), 1), (2, 1, 0, (0, 2), 1), (2, 0, 0, (1, 2), 1)], 2, [])
+>>> [shows_map(ring, pair, NoMap([], 0, [(0, by_zero), (1, by_one)])), shows_map(ring, pair, NoMap([], 0, [(0, by_zero)])), shows_map(ring, pair, NoMap([], 0, [(1, by_one), (0, by_zero)])), shows_map(ring, pair, judged_map(ring, pair))]
+[True, False, False, True]
+>>> [shows_map(pair, ring, Mapped((1, 2))), shows_map(pair, ring, Mapped([1, 1])), shows_map(pair, ring, (1, 2)), shows_map(pair, ring, NoMap([], 0, []))]
+[True, False, False, False]
+>>> one, turned = World([2], 1, [[(0, 0)]]), World([2], 2, [[(0, 1), (1, 0)]])
+>>> on_zero, on_one = ([(0, 0, 0, (0, 0), 0)], 0, []), ([(0, 1, 0, (0, 0), 1)], 0, [])
+>>> [shows_map(one, turned, NoMap([(0, 0, 0, (0, 0), 0), (0, 1, 0, (0, 0), 0)], 0, [])), shows_map(one, turned, NoMap([], 0, [(0, on_zero), (1, on_one)]))]
+[False, True]
+""",
+    ),
+    (
+        "webs",
+        r"""
+>>> ring = Web(4, [(0, 1), (1, 2), [3, 2], (3, 0), (0, 3)])
+>>> [ring.many, ring.ties, ring.beside(0), ring.is_tied(3, 0), ring.is_tied(0, 2), ring.is_tied(0, 4), ring.is_tied(False, 1), len(ring)]
+[4, ((0, 1), (0, 3), (1, 2), (2, 3)), (1, 3), True, False, False, False, 4]
+>>> [renamed_web(ring, [1, 0, 2, 3]).ties, renamed_web(ring, [1, 2, 3, 0]) == ring]
+[((0, 1), (0, 2), (1, 3), (2, 3)), True]
+>>> web_world(Web(2, [(1, 0)])) == World((2,), 2, [[(0, 1), (1, 0)]])
+True
+>>> Web(0, [])
+raises BadNumber('many')
+>>> Web(2, [(0, 0)])
+raises BadWeb('ties')
+>>> ring.beside(4)
+raises BadNumber('place')
+>>> renamed_web(ring, [0, 1, 2, 2])
+raises BadMap('names')
+""",
+    ),
+    (
+        "web_texts",
+        r"""
+>>> web_text(ring)
+'places 4\n0 1\n0 3\n1 2\n2 3'
+>>> [read_web(web_text(ring)) == ring, read_web("places 3\n2 0\n0 2").ties, read_web("places 1").many]
+[True, ((0, 2),), 1]
+>>> read_web("places 2\n0 2")
+raises BadLine(1, 1)
+>>> read_web("places 2\n0")
+raises BadLine(1, 1)
+>>> read_web("places 2\n0 1 1")
+raises BadLine(1, 2)
+>>> read_web("places 2\n0 0")
+raises BadLine(1, 1)
+>>> read_web("places 2\n01 1")
+raises BadLine(1, 0)
+>>> read_web("places 2\n")
+raises BadLine(1, 0)
+>>> read_web("")
+raises BadLine(0, 0)
+""",
+    ),
+    (
+        "layings",
+        r"""
+>>> tie, three = Web(2, [(0, 1)]), Web(3, [(0, 1), (0, 2), (1, 2)])
+>>> [layings(ring, tie), len(layings(tie, ring)), layings(three, ring), len(layings(three, three))]
+[((0, 1, 0, 1), (1, 0, 1, 0)), 8, (), 6]
+>>> [is_laying(ring, tie, [0, 1, 0, 1]), is_laying(ring, tie, (0, 1, 1, 0)), is_laying(tie, ring, "01"), some_laying(three, ring)]
+[True, False, False, None]
+>>> [is_turn(ring, (1, 2, 3, 0)), is_turn(ring, (0, 1, 0, 1)), is_stiff(three), is_stiff(Web(1, []))]
+[True, False, False, True]
+>>> [layings(Web(2, []), tie), layings(Web(3, [(0, 1)]), Web(2, []))]
+[((0, 0), (0, 1), (1, 0), (1, 1)), ()]
+>>> layings(Web(2, []), three, 8)
+raises TooMany('layings', 8)
+>>> layings(ring, ring, most=0)
+raises BadNumber('most')
+""",
+    ),
+    (
+        "sheets",
+        r"""
+>>> kite = Web(6, [(0, 1), (0, 2), (1, 2), (2, 3), (1, 3), (3, 4)])
+>>> [triangles(kite), sheets(kite)]
+[((0, 1, 2), (1, 2, 3)), (((0, 1), (0, 2), (1, 2), (1, 3), (2, 3)), ((3, 4),))]
+>>> [sheet_of(kite, (4, 3)), sheet_of(kite, [2, 3]) == sheets(kite)[0], clusters_of(kite), triangles(ring), len(sheets(ring))]
+[((3, 4),), True, ((0, 1, 2, 3, 4), (5,)), (), 4]
+>>> sheet_of(kite, (0, 3))
+raises BadPairs('tie')
+""",
+    ),
+    (
+        "strips",
+        r"""
+>>> triangles_of("0101")
+((0, 1, 2), (1, 2, 3), (2, 3, 4), (2, 4, 5), (4, 5, 6), (4, 6, 7), (6, 7, 8))
+>>> [hubs("0101"), colours_of("0101"), strip("").ties]
+[(2, 2, 4, 4, 6), (0, 1, 2, 0, 1, 0, 2, 0, 1), ((0, 1), (0, 2), (1, 2), (1, 3), (2, 3), (2, 4), (3, 4))]
+>>> [touching(""), touching("00"), touching("010"), touching("0101"), touching("111")]
+[(1, 2), (1, 2), (2, 4), None, None]
+>>> closed_strip("0101").ties
+((0, 1), (0, 2), (0, 6), (0, 7), (1, 2), (1, 3), (2, 3), (2, 4), (2, 5), (3, 4), (4, 5), (4, 6), (4, 7), (5, 6), (6, 7))
+>>> closed_strip("00")
+raises Misfit('code')
+>>> [good_codes(3), good_codes(4), good_codes(5)]
+[(), ('0101', '1011'), ('00111', '01001', '01011', '01111', '10011', '10111')]
+>>> [judged_code("0101") == Stiff((0, 1, 2, 0, 1, 0, 2, 0, 1)), judged_code("0111") == SameTips((0, 1, 2, 0, 1, 0, 2, 1))]
+[True, True]
+>>> [judged_code("00") == Touching(1, 2), judged_code("111").names]
+[True, (0, 6, 5, 4, 3, 2, 1)]
+>>> judged_strip(closed_strip("1010")).parts
+('0101', (0, 7, 5, 6, 3, 4, 2, 1))
+>>> [judged_strip(closed_strip("111")).parts, judged_strip(strip("0101")) == NoStrip()]
+[('111', (0, 1, 2, 3, 4, 5, 6)), True]
+""",
+    ),
+    (
+        "walks",
+        r"""
+>>> [count_layings("0101", closed_strip("0101")), count_layings("0111", closed_strip("0101")), count_layings("0101", closed_strip("0111"))]
+[1, 278, 0]
+>>> strip_layings("111", closed_strip("111"))
+((0, 1, 2, 3, 4, 5, 6), (0, 6, 5, 4, 3, 2, 1))
+>>> [count_layings("01001", closed_strip("0101")), strip_layings("01001", closed_strip("0101"))]
+[1, ((0, 1, 2, 3, 4, 5, 6, 7, 6),)]
+>>> strip_layings("0111", closed_strip("0101"), 100)
+raises TooMany('layings', 100)
+""",
+    ),
+    (
+        "clasps",
+        r"""
+>>> clasp = strip_clasp("0101")
+>>> [clasp.first, clasp.last, clasp.inner, clasp.web == closed_strip("0101")]
+[0, 3, (1, 2, 4, 5, 6, 7), True]
+>>> [judged_clasp(clasp.web, 0, 3) == Held(), judged_clasp(clasp.web, 0, 1) == Tied(0, 1), judged_clasp(Web(3, [(0, 1)]), 0, 2) == Bare(2)]
+[True, True, True]
+>>> [judged_clasp(Web(3, [(0, 1), (1, 2)]), 0, 2).parts, judged_clasp(Web(5, [(0, 1), (0, 2), (1, 2), (2, 3), (2, 4), (3, 4)]), 0, 3).parts]
+[((0, 1),), ((0, 1), (2, 3))]
+>>> judged_clasp(Web(4, [(0, 1), (0, 2), (1, 2), (1, 3), (2, 3)]), 0, 3).word
+'moving'
+>>> [turned_about(clasp).first, turned_about(turned_about(clasp)) == clasp, turned_about(clasp) == clasp]
+[3, True, False]
+>>> strip_clasp("0111")
+raises Misfit('code')
+""",
+    ),
 )
 
 

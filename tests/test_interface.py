@@ -17,11 +17,65 @@ FUNCTIONS = {
         "count_maps": "world, other",
     },
     "refutations": {"left": "world, other, strikes", "judged_map": "world, other"},
+    "check_maps": {"shows_map": "world, other, value"},
+    "webs": {"web_world": "web", "renamed_web": "web, names"},
+    "web_texts": {"web_text": "web", "read_web": "text"},
+    "layings": {
+        "is_laying": "web, other, value",
+        "layings": "web, other, most=200",
+        "some_laying": "web, other",
+        "is_turn": "web, value",
+        "is_stiff": "web",
+    },
+    "sheets": {"triangles": "web", "sheets": "web", "sheet_of": "web, tie", "clusters_of": "web"},
+    "strips": {
+        "triangles_of": "code",
+        "hubs": "code",
+        "colours_of": "code",
+        "strip": "code",
+        "touching": "code",
+        "closed_strip": "code",
+        "good_codes": "letters",
+        "judged_code": "code",
+        "judged_strip": "web",
+    },
+    "walks": {"count_layings": "code, web", "strip_layings": "code, web, most=200"},
+    "clasps": {"judged_clasp": "web, first, last", "turned_about": "clasp", "strip_clasp": "code"},
 }
 CLASSES = {
     "papers": {"Paper": "self, word, *parts", "Denial": "self, word, *parts"},
     "worlds": {"World": "self, lengths, many, rows"},
     "refutations": {"Mapped": "self, row", "NoMap": "self, strikes, place, cases"},
+    "webs": {"Web": "self, many, ties"},
+    "strips": {
+        "Stiff": "self, colours",
+        "Strip": "self, code, names",
+        "Touching": "self, one, other",
+        "SameTips": "self, colours",
+        "Reversed": "self, names",
+        "NoStrip": "self",
+    },
+    "clasps": {
+        "Held": "self",
+        "Tied": "self, first, last",
+        "Bare": "self, place",
+        "Flat": "self, tie",
+        "Apart": "self, one, other",
+        "Moving": "self, laying",
+        "Clasp": "self, web, first, last",
+    },
+}
+METHODS = {
+    ("webs", "Web"): {
+        "__eq__": "self, other",
+        "__len__": "self",
+        "beside": "self, place",
+        "is_tied": "self, one, other",
+    },
+    ("worlds", "World"): {"__eq__": "self, other", "__len__": "self"},
+    ("papers", "Paper"): {"__eq__": "self, other"},
+    ("papers", "Denial"): {"__eq__": "self, other"},
+    ("clasps", "Clasp"): {"__eq__": "self, other"},
 }
 
 
@@ -42,6 +96,13 @@ class Interface(unittest.TestCase):
     def test_classes(self):
         for made, due in self.told(CLASSES, type):
             self.assertEqual(str(inspect.signature(vars(made)["__init__"])), f"({due})")
+
+    def test_methods_stand_in_the_class_itself(self):
+        for (module, name), methods in METHODS.items():
+            made = vars(importlib.import_module(f"justthese.{module}"))[name]
+            for method, due in methods.items():
+                with self.subTest(name=name, method=method):
+                    self.assertEqual(str(inspect.signature(vars(made)[method])), f"({due})")
 
 
 if __name__ == "__main__":

@@ -158,6 +158,20 @@ class Names(unittest.TestCase):
                         self.assertIsInstance(node.value, ast.Name, told)
 
 
+    def test_methods_and_attributes_have_unlike_names(self):
+        methods, stored, read = {}, {}, {}
+        for name, _, tree in sources():
+            for node in ast.walk(tree):
+                if isinstance(node, ast.ClassDef):
+                    methods.update({told.name: name for told in node.body if isinstance(told, ast.FunctionDef)})
+                elif isinstance(node, ast.Attribute):
+                    kept = read if isinstance(node.ctx, ast.Load) else stored
+                    kept[node.attr] = name
+        self.assertEqual({told: methods[told] for told in methods if told in stored}, {})
+        unknown = {told: read[told] for told in read if told not in methods and told not in stored}
+        self.assertEqual({told: name for told, name in unknown.items() if told not in METHODS}, {})
+
+
 class Statements(unittest.TestCase):
     def test_barred(self):
         for name, _, tree in sources():

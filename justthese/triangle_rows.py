@@ -1,0 +1,49 @@
+"""Triangles in a row, each with a tie in common with the next one: the places and the code that they tell."""
+
+
+def _shares_tie(one, other):
+    """Whether two triangles have two places in common."""
+    return len([place for place in one if place in other]) == 2
+
+
+def row_of_triangles(told):
+    """Triangles put in a row, such that just neighbours have a tie in common; None if there is no such row.
+
+    The same row from its other end is the only other one.
+    """
+    near = [[k for k, other in enumerate(told) if _shares_tie(one, other)] for one in told]
+    ends = [k for k, beside in enumerate(near) if len(beside) == 1]
+    if len(ends) != 2 or max([len(beside) for beside in near]) > 2:
+        return None
+    row = [ends[0]]
+    while row[-1] != ends[1]:
+        row.append([k for k in near[row[-1]] if k not in row[-2:]][0])
+    # What is not reached from an end is another part, so there is more than one row.
+    if len(row) < len(told):
+        return None
+    return [told[k] for k in row]
+
+
+def places_along(row):
+    """The places of a strip from tip to tip, by the row of its triangles.
+
+    As just neighbours have a tie in common, each place is told by what it lies in and what it does not.
+    """
+    first, second, third = row[0], row[1], row[2]
+    told = [
+        [place for place in first if place not in second],
+        [place for place in first if place in second and place not in third],
+        [place for place in first if place in second and place in third],
+    ]
+    for last, here in zip(row, row[1:]):
+        told.append([place for place in here if place not in last])
+    return [places[0] for places in told]
+
+
+def code_along(row):
+    """The code of a strip, by the row of its triangles."""
+    common = [
+        [place for place in one if place in other and place in third]
+        for one, other, third in zip(row, row[1:], row[2:])
+    ]
+    return "".join(["0" if here == behind else "1" for here, behind in zip(common, common[1:])])
