@@ -1,4 +1,7 @@
-"""Runs examples as a document tells them: `>>> ` and code, then the value, or `raises` and the error."""
+"""Runs examples as a document tells them: `>>> ` and code, then the value, or `raises` and the error.
+
+The error is told with its fields, or by its class alone.
+"""
 
 
 def cut(text):
@@ -20,9 +23,11 @@ def run(case, text, names):
                 exec(code, names)
             elif line.startswith("raises "):
                 due = eval(line[7:], names)
-                with case.assertRaises(type(due)) as caught:
+                told = due if isinstance(due, type) else type(due)
+                with case.assertRaises(told) as caught:
                     eval(code, names)
-                case.assertIs(type(caught.exception), type(due))
-                case.assertEqual(vars(caught.exception), vars(due))
+                case.assertIs(type(caught.exception), told)
+                if due is not told:
+                    case.assertEqual(vars(caught.exception), vars(due))
             else:
                 case.assertEqual(repr(eval(code, names)), repr(eval(line, names)))

@@ -11,6 +11,24 @@ class Strange:
     """A value of a class that no function of the package knows."""
 
 
+# Clasps that are no closed strips, told as the ties of their webs and their ends.
+DENSE = (
+    "01 02 03 04 05 06 08 13 15 18 1a 1b 24 25 26 27 28 29 2a 2b 34 35 36 37 39 3a 45 46 47 48 4b 56 57 58 59 5a 5b "
+    "67 68 69 6a 78 79 7a 7b 8a 8b 9a ab",
+    0,
+    7,
+)
+# These two make a box.
+NINE = ("01 02 05 06 07 13 15 16 17 18 24 25 26 27 28 34 36 37 38 45 47 48 56 58 78", 0, 3)
+NINTH = ("01 02 03 04 05 08 15 16 17 18 23 24 25 26 34 36 38 45 46 48 57 67 68 78", 0, 6)
+
+
+def told_web(ties):
+    """The web of ties that are told as pairs of signs, each the number of a place."""
+    pairs = [(int(tie[0], 16), int(tie[1], 16)) for tie in ties.split()]
+    return Web(1 + max(max(pair) for pair in pairs), pairs)
+
+
 # No list of integers of any kind, and no object of the package.
 WRONG = [None, True, False, "", "0", "01", 0, 3, -1, 10**29, 1.5, b"01", {}, {0: 1}, range(2), Strange(), World]
 
@@ -201,6 +219,7 @@ def woven_web(many, arrows, clasps):
 def some_arrows(chance, many, kinds, count):
     """Arrows between so many places, each place on one at least."""
     told = {(chance.randrange(kinds), x, (x + 1) % many) for x in range(0, many, 2)}
+    count = min(count, kinds * many * (many - 1))
     while len(told) < count:
         told.add((chance.randrange(kinds), *chance.sample(range(many), 2)))
     return sorted(told)

@@ -264,6 +264,158 @@ raises TooMany('layings', 100)
 raises Misfit('code')
 """,
     ),
+    (
+        "boxes",
+        r"""
+>>> pair = Box([strip_clasp("0101"), strip_clasp("1011")])
+>>> [len(pair), strip_box(2) == pair, strip_box(1).clasps == (clasp,)]
+[2, True, True]
+>>> [judged_strip(kind.web).code for kind in strip_box(3).clasps]
+['00111', '01001', '01011']
+>>> judged_box([strip_clasp("1011"), clasp, turned_about(clasp)]).parts
+(1, 2, (0, 1, 2, 3, 4, 5, 6, 7))
+>>> Box([])
+raises BadBox('clasps')
+>>> strip_box(76)
+raises BadNumber('many')
+""",
+    ),
+    (
+        "check_clasps",
+        r"""
+>>> [shows_code("0101", judged_code("0101")), shows_code("111", Stiff(colours_of("111"))), shows_code("00", Touching(True, 2))]
+[True, False, False]
+>>> [shows_strip(closed_strip("111"), Strip("111", [0, 1, 2, 3, 4, 5, 6])), shows_strip(closed_strip("111"), Strip("111", (0, 6, 5, 4, 3, 2, 1)))]
+[True, False]
+>>> kite = Web(4, [(0, 1), (0, 2), (1, 2), (1, 3), (2, 3)])
+>>> [shows_clasp(kite, 0, 3, Moving(row)) for row in [(0, 1, 2, 0), [0, 2, 1, 3], (0, 1, 2, 3), (0, 1, 2, 1)]]
+[True, True, False, False]
+>>> [shows_clasp(kite, 0, 1, Moving((0, 1, 2, 0))), shows_clasp(kite, 0, 1, Tied(0, 1))]
+[False, True]
+>>> [shows_box([clasp, turned_about(clasp)], Crossing(0, 1, tuple(range(8)))), shows_box([clasp, turned_about(clasp)], Crossing(1, 0, tuple(range(8)))), shows_box([clasp], Unlike())]
+[True, False, True]
+""",
+    ),
+    (
+        "plans",
+        r"""
+>>> arrow, chain = World((2,), 2, [[(0, 1)]]), World((2,), 3, [[(0, 1), (1, 2)]])
+>>> [judged_plan(chain).word, arrows(chain), arrows(World((2, 2), 2, [[(1, 0)], [(0, 1), (1, 0)]]))]
+['plain', ((0, 0, 1), (0, 1, 2)), ((0, 1, 0), (1, 0, 1), (1, 1, 0))]
+>>> [judged_plan(World((2, 1), 2, [[(0, 0)], [(1,)]])).parts, judged_plan(World((2, 2), 2, [[(0, 1)], [(1, 1)]])).parts, judged_plan(World((2,), 3, [[(0, 1)]])).parts]
+[(1,), (1, 1), (2,)]
+>>> bool(judged_plan(World((), 1, [])))
+False
+""",
+    ),
+    (
+        "woven",
+        r"""
+>>> small, long = Woven(arrow, strip_box(1)), Woven(chain, strip_box(1))
+>>> [small.web.many, small.arrows, small.copies, small.web.beside(0), small.web.beside(1)]
+[8, ((0, 0, 1),), ((0, 2, 3, 1, 4, 5, 6, 7),), (2, 3, 6, 7), (2, 3, 4)]
+>>> [long.web.many, len(long.web.ties), long.copies[1]]
+[15, 30, (1, 9, 10, 2, 11, 12, 13, 14)]
+>>> [small.lifted(long, [1, 2]), small.lowered(long, (1, 2, 9, 10, 11, 12, 13, 14))]
+[(1, 2, 9, 10, 11, 12, 13, 14), (1, 2)]
+>>> [[laying[:2] for laying in all_layings(small, long)], all_layings(long, small), all_layings(small, long) == layings(small.web, long.web)]
+[[(0, 1), (1, 2)], (), True]
+>>> Woven(World((2, 2, 2), 2, [[(0, 1)], [], []]), strip_box(2))
+raises Misfit('box')
+>>> small.lifted(long, (2, 1))
+raises BadMap('row')
+>>> small.lifted(Woven(arrow, strip_box(2)), (0, 1))
+raises Misfit('other')
+>>> small.lowered(long, (0,) * 8)
+raises BadLaying('laying')
+>>> all_layings(small, long, 1)
+raises TooMany('layings', 1)
+""",
+    ),
+    (
+        "unwoven",
+        r"""
+>>> told = judged_woven(renamed_web(long.web, list(range(15))[::-1]), strip_box(1))
+>>> [told.word, told.world == World((2,), 3, [[(2, 1), (1, 0)]]), told.names]
+['unwoven', True, (12, 13, 14, 5, 4, 3, 2, 1, 0, 11, 10, 9, 8, 7, 6)]
+>>> [judged_woven(Web(2, []), strip_box(1)) == Bare(0), judged_woven(three, strip_box(1)) == Strange((0, 1)), len(judged_woven(small.web, strip_box(2)).world.lengths)]
+[True, True, 2]
+>>> ties = list(small.web.ties)
+>>> on_inner = Web(15, ties + [(2 if one == 0 else one + 7, other + 7) for one, other in ties])
+>>> on_both = Web(14, ties + [(one if one < 2 else one + 6, other + 6) for one, other in ties])
+>>> [judged_woven(on_inner, strip_box(1)).parts, judged_woven(on_both, strip_box(1)).parts, judged_woven(on_both, strip_box(1)).word]
+[(2,), ((0, 8),), 'twice']
+""",
+    ),
+    (
+        "check_woven",
+        r"""
+>>> turned = renamed_web(small.web, [1, 0, 2, 3, 4, 5, 6, 7])
+>>> due = judged_woven(turned, strip_box(1))
+>>> [due.world.rows, shows_woven(turned, strip_box(1), due), shows_woven(turned, strip_box(1), Unwoven(due.world, list(due.names))), shows_woven(small.web, strip_box(1), due)]
+[(((1, 0),),), True, True, False]
+>>> [shows_woven(three, strip_box(1), value) for value in (Strange([0, 1]), Strange((1, 0)), Strange((0, 2)), Bare(0), None)]
+[True, False, False, False, False]
+""",
+    ),
+    (
+        "spread",
+        r"""
+>>> moves = World([2], 2, [[(0, 1), (0, 0)]])
+>>> [spread(moves).many, spread(moves).lengths, spread(moves).rows, spread(World([], 2, [])).rows]
+[6, (2, 2, 2), (((2, 0), (3, 0)), ((2, 0), (3, 1)), ((4, 0), (5, 1))), (((2, 0), (3, 1)),)]
+>>> [spread_row(moves, moves, [0, 0]), spread_row(moves, moves, (0, 1))]
+[(0, 0, 2, 2, 4, 4), (0, 1, 2, 3, 4, 5)]
+>>> told = judged_spread(renamed(spread(moves), [5, 4, 3, 2, 1, 0]), [2])
+>>> [told.word, told.world.rows, told.names, judged_spread(spread(moves), [2]) == Unspread(moves, [0, 1, 2, 3, 4, 5])]
+['unspread', (((1, 0), (1, 1)),), (4, 5, 2, 3, 0, 1), True]
+>>> pegged = World([2, 2, 2], 2, [[], [], [(1, 0)]])
+>>> [judged_spread(pegged, [2]).world.lengths, judged_spread(pegged, [1, 1]).world.lengths]
+[(2,), (1, 1)]
+>>> [judged_spread(World([2, 2], 3, [[(0, 1)], [(2, 1), (2, 0)]]), [1]), judged_spread(World([2, 2], 4, [[(0, 1), (3, 1)], [(2, 1)]]), [1])] == [Wrong(0), Twins(0, 3)]
+True
+>>> spread_row(moves, moves, (1, 0))
+raises BadMap('row')
+>>> judged_spread(spread(moves), [1])
+raises Misfit('lengths')
+>>> spread(World([8] * 10, 1, [[]] * 10))
+raises TooMany('kinds', 75)
+""",
+    ),
+    (
+        "doubled",
+        r"""
+>>> [doubled(moves).many, doubled(moves).rows, doubled(World([1], 2, [[(1,)]])).rows, doubled_row(moves, moves, [0, 0])]
+[4, (((0, 2), (1, 3)), ((0, 2), (0, 3))), (((0, 2), (1, 3)), ((1, 3),)), (0, 0, 2, 2)]
+>>> told = judged_doubled(renamed(doubled(moves), [3, 1, 0, 2]), [2])
+>>> [told.word, told.world.rows, told.names]
+['undoubled', (((1, 0), (1, 1)),), (1, 3, 2, 0)]
+>>> crossed = World([2, 2], 4, [[(0, 2), (1, 3)], [(0, 3)]])
+>>> [judged_doubled(crossed, [2]).world.rows, judged_doubled(crossed, [1]) == Astray(1, 0, 3), judged_doubled(World([2], 3, [[(0, 1), (1, 2)]]), []) == Wrong(1)]
+[(((0, 1),),), True, True]
+>>> doubled(World([3], 1, [[]]))
+raises Misfit('world')
+""",
+    ),
+    (
+        "world_webs",
+        r"""
+>>> by_spread, by_double = web_of(moves, "spread"), web_of(moves, "doubled")
+>>> [by_spread.web.many, len(by_spread.web.ties), by_double.web.many, len(by_double.web.ties), web_of(World([], 1, []), "spread").web.many]
+[48, 102, 28, 60, 8]
+>>> wipe = laying_of(moves, moves, [0, 0], "doubled")
+>>> [wipe[:4], wipe[10:16], row_of(moves, moves, wipe, "doubled")]
+[(0, 0, 2, 2), (4, 5, 6, 7, 8, 9), (0, 0)]
+>>> layings(by_double.web, by_double.web) == (wipe, tuple(range(28)))
+True
+>>> [world_in(by_spread.web, [2], "spread") == Found(moves, list(range(48))), world_in(by_spread.web, [1], "spread").word, world_in(Web(1, []), [], "spread") == Bare(0)]
+[True, 'strange', True]
+>>> row_of(World([], 1, []), World([], 1, []), (0, 1, 2, 3, 4, 5, 6, 6), "spread")
+raises BadLaying('laying')
+>>> web_of(moves, "twofold")
+raises BadText('way')
+""",
+    ),
 )
 
 
