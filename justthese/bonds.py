@@ -31,6 +31,16 @@ def masks_of(rows, length, below):
     return masks
 
 
+def rows_there(other):
+    """For each relation, index and value the rows of a world with this value there."""
+    there = {}
+    for relation, rows in enumerate(other.rows):
+        for row in rows:
+            for index, value in enumerate(row):
+                there.setdefault((relation, index, value), []).append(row)
+    return there
+
+
 def row_bonds(world, other):
     """A bond for each row of a world, by relation; a place that comes twice has two slots."""
     bonds = []

@@ -1,6 +1,6 @@
 """How a refutation is found: strikes as long as one holds, then cases; needless strikes are let."""
 
-from justthese.bonds import row_bonds
+from justthese.bonds import row_bonds, rows_there
 from justthese.errors import TooMany
 from justthese.fields import Field
 
@@ -43,7 +43,7 @@ class Refuter:
     def __init__(self, world, other, cluster, weights):
         self.below = other.many
         self.cluster = cluster
-        self.there = _rows_there(other)
+        self.there = rows_there(other)
         self.rows = [(relation, row) for relation, rows in enumerate(world.rows) for row in rows]
         field = Field(world.many, other.many, row_bonds(world, other))
         # The search for a map failed: it has learned where to begin.
@@ -128,16 +128,6 @@ class Refuter:
             pairs = [pair for pair in zip(row, told) if gone.get(pair, when) < when]
             if not any([pair in needed for pair in pairs]):
                 needed[min([(gone[pair], pair) for pair in pairs])[1]] = True
-
-
-def _rows_there(other):
-    """For each relation, index and value the rows of a world with this value there."""
-    there = {}
-    for relation, rows in enumerate(other.rows):
-        for row in rows:
-            for index, value in enumerate(row):
-                there.setdefault((relation, index, value), []).append(row)
-    return there
 
 
 def _with_bound(many):

@@ -240,3 +240,40 @@ def all_codes(letters):
 def spaced(code):
     """Whether two letters 1 of a code are two or more letters apart, so that it does not touch."""
     return code.rfind("1") - code.find("1") >= 2
+
+
+def with_rows(world, at, rows):
+    """A world with other rows of a relation."""
+    return World(world.lengths, world.many, [*world.rows[:at], rows, *world.rows[at + 1 :]])
+
+
+def changed_plan(chance, plan):
+    """A world of arrows with one thing otherwise."""
+    arrows = [(k, row) for k, rows in enumerate(plan.rows) for row in rows]
+    if not arrows:
+        return plan
+    kind, row = chance.choice(arrows)
+    rows = [list(told) for told in plan.rows]
+    some = (chance.randrange(plan.many), chance.randrange(plan.many))
+    what = chance.randrange(8)
+    if what in (0, 2, 3, 4):
+        rows[kind].remove(row)
+    if what == 1:
+        rows[kind].append(some)
+    elif what == 2:
+        rows[kind].append(row[::-1])
+    elif what == 3:
+        rows[kind].append((row[0], some[1]))
+    elif what == 4:
+        rows[chance.randrange(len(rows))].append(row)
+    elif what == 5:
+        return World(plan.lengths, plan.many + 1, rows)
+    elif what == 6:
+        # All arrows of a place once more, from or to a new one.
+        for told in rows:
+            told += [tuple(plan.many if x == row[0] else x for x in pair) for pair in told if row[0] in pair]
+        return World(plan.lengths, plan.many + 1, rows)
+    elif what == 7:
+        for told in rows:
+            told[:] = [tuple(some[0] if x == some[1] else x for x in pair) for pair in told]
+    return World(plan.lengths, plan.many, rows)

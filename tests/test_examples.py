@@ -416,6 +416,124 @@ raises BadLaying('laying')
 raises BadText('way')
 """,
     ),
+    (
+        "carried",
+        r"""
+>>> one, none = World([1], 1, [[(0,)]]), World([1], 1, [[]])
+>>> paper = NoMap([(0, 0, 0, (0,), 0)], 0, [])
+>>> carried(one, none, paper, "spread").strikes
+((0, 1, 1, (2, 0), 1), (1, 0, 0, (1, 0), 0), (1, 1, 0, (1, 0), 0), (2, 0, 1, (2, 0), 0), (0, 0, 0, (1, 0), 1))
+>>> carried(one, none, paper, "doubled") == NoMap([(0, 1, 0, (0, 1), 0), (1, 0, 0, (0, 1), 1), (0, 0, 1, (0, 1), 0), (1, 1, 0, (0, 1), 1)], 0, [])
+True
+>>> loop, swap = World([2], 1, [[(0, 0)]]), World([2], 2, [[(0, 1), (1, 0)]])
+>>> paper = NoMap([], 0, [(0, ([(0, 0, 0, (0, 0), 0)], 0, [])), (1, ([(0, 1, 0, (0, 0), 1)], 0, []))])
+>>> both = carried(loop, swap, paper, "doubled")
+>>> [both.strikes, both.place, both.cases[0]]
+[((0, 2, 0, (0, 1), 0), (0, 3, 0, (0, 1), 0), (1, 0, 0, (0, 1), 1), (1, 1, 0, (0, 1), 1)), 0, (0, (((1, 3, 0, (0, 1), 1), (0, 0, 1, (0, 1), 0), (1, 2, 0, (0, 1), 1)), 0, ()))]
+>>> both.cases[1]
+(1, (((1, 2, 0, (0, 1), 1), (1, 3, 1, (0, 1), 1), (0, 1, 0, (0, 1), 0)), 0, ()))
+>>> [shows_map(doubled(loop), doubled(swap), both), shows_map(spread(loop), spread(swap), carried(loop, swap, paper, "spread"))]
+[True, True]
+>>> carried(loop, swap, NoMap([], 0, []), "doubled")
+raises BadPaper('paper')
+""",
+    ),
+    (
+        "colouring",
+        r"""
+>>> dot = web_of(World([], 1, []), "spread")
+>>> [colouring(dot), is_colouring(dot.web, colouring(dot), 4), is_colouring(dot.web, colouring(dot), 3), is_colouring(dot.web, [0] * 8, 4)]
+[(3, 3, 1, 2, 1, 0, 2, 0), True, False, False]
+>>> [is_colouring(by_spread.web, colouring(by_spread), 4), is_colouring(dot.web, "33121020", 4)]
+[True, False]
+""",
+    ),
+    (
+        "tables",
+        r"""
+>>> wipe = Table([[0, 1], [1, 1]])
+>>> [wipe.rows, wipe.still, wipe.then(1, 0), wipe.then(1, 1), len(wipe)]
+[((0, 1), (1, 1)), 0, 1, 1, 2]
+>>> clock = Table([[0, 1, 2, 3], [1, 2, 3, 0], [2, 3, 0, 1], [3, 0, 1, 2]])
+>>> [clock.then(2, 3), still_of([[1, 0], [0, 1]]), still_of([[0, 0], [1, 1]])]
+[1, 1, None]
+>>> lame = [[0, 1, 2], [1, 2, 1], [2, 2, 2]]
+>>> [judged_table(clock.rows).parts, judged_table([[0, 0], [1, 1]]).parts, judged_table(lame).parts, judged_table(lame).word]
+[(0,), ((1, 0),), (1, 1, 1), 'triple']
+>>> judged_table([[0, 2], [1, 1]])
+raises BadTable('rows')
+>>> Table(lame)
+raises NoTable
+""",
+    ),
+    (
+        "makers",
+        r"""
+>>> [some_makers(clock), some_makers(wipe), some_makers(Table([[0]])), made(clock, [2]), made(clock, [])]
+[(1,), (1,), (), (0, 2), (0,)]
+>>> [spellings(clock, [3, 1]), spellings(clock, [2])]
+[((), (1,), (1, 1), (3,)), ((), None, (2,), None)]
+""",
+    ),
+    (
+        "table_webs",
+        r"""
+>>> world = table_world(wipe)
+>>> [world.lengths, world.many, world.rows, deed_row(wipe, 0), deed_row(wipe, 1), maps(world, world)]
+[(2,), 2, (((0, 1), (1, 1)),), (0, 1), (1, 1), ((0, 1), (1, 1))]
+>>> woven = table_web(wipe)
+>>> [woven.web.many, len(woven.web.ties), deed_laying(wipe, 1)[:4], deed_of(wipe, deed_laying(wipe, 1)), len(layings(woven.web, woven.web))]
+[28, 60, (1, 1, 3, 3), 1, 2]
+>>> [table_world(clock, [3, 2]).rows, passing(lame), passing(clock.rows)]
+[(((0, 3), (1, 0), (2, 1), (3, 2)), ((0, 2), (1, 3), (2, 0), (3, 1))), (0, 2), (0, 1, 2, 3)]
+>>> [square_world(lame).rows, maps(square_world(lame), square_world(lame))]
+[(((0, 1), (1, 2), (2, 1)), ((0, 2), (1, 2), (2, 2))), ((0, 1, 2), (2, 1, 2))]
+>>> table_world(clock, [2])
+raises Misfit('makers')
+>>> table_web(clock, [1, 1])
+raises BadMakers('makers')
+>>> deed_of(wipe, (0, 1))
+raises BadLaying('laying')
+""",
+    ),
+    (
+        "deeds",
+        r"""
+>>> [deeds_of(Web(2, [(0, 1)]))[0], deeds_of(Web(2, [(0, 1)]))[1].rows, len(deeds_of(Web(3, [(0, 1), (1, 2)]))[0])]
+[((0, 1), (1, 0)), ((0, 1), (1, 0)), 6]
+>>> [deeds_of(woven.web)[1] == wipe, renamings(clock, clock), renamings(clock, wipe)]
+[True, ((0, 1, 2, 3), (0, 3, 2, 1)), ()]
+>>> deeds_of(Web(3, []))
+raises TooMany('layings', 24)
+""",
+    ),
+    (
+        "lots",
+        r"""
+>>> turns = [(0, 1, 2), (1, 2, 0)]
+>>> [judged_moves(turns).parts, judged_moves([(1, 0)]).word, completed([(1, 2, 0)]), passing_moves(turns)]
+[((1, 2, 0), (1, 2, 0)), 'nostill', ((0, 1, 2), (1, 2, 0), (2, 0, 1)), ((0, 1, 2),)]
+>>> lot = [(0, 1), (0, 0)]
+>>> [judged_moves(lot) == Complete(), lot_world(lot).rows, passing_moves(lot), lot_table(lot).rows, lot_table(lot).still]
+[True, (((0, 0), (0, 1)),), ((0, 0), (0, 1)), ((0, 0), (0, 1)), 1]
+>>> pair = lot_web(lot).web
+>>> [pair.many, len(pair.ties), move_laying(lot, (0, 0))[:2], move_of(lot, move_laying(lot, (0, 0))), lot_table(completed(turns)).rows]
+[48, 102, (0, 0), (0, 0), ((0, 1, 2), (1, 2, 0), (2, 0, 1))]
+>>> move_laying(turns, (1, 2, 0))
+raises BadMap('move')
+>>> lot_table(turns)
+raises Misfit('moves')
+""",
+    ),
+    (
+        "check_tables",
+        r"""
+>>> [shows_table(lame, Triple(1, 1, 1)), shows_table(lame, Triple(1, 1, 2)), shows_table(lame, Deeds(0)), shows_table([[0, 0], [1, 1]], Unstill([1, 0]))]
+[True, False, False, True]
+>>> [shows_moves(turns, Outside([1, 2, 0], [1, 2, 0])), shows_moves(turns, Complete()), shows_moves(lot, Complete()), shows_moves(lot, lot)]
+[True, False, True, False]
+""",
+    ),
 )
 
 
