@@ -2,9 +2,6 @@
 
 from heapq import heappop, heappush
 
-from justthese.masks import web_masks
-from justthese.sheets import clusters_of
-
 MOST_OPEN = 12
 
 
@@ -115,24 +112,3 @@ class Search:
                 elif self.enter(step + 1, len(found)):
                     step += 1
         return found
-
-
-def laid_parts(web, other, most):
-    """For each cluster of a web its places, and the rows that they may get in another one: all, or more than most.
-
-    Once there are more than most in all, one row stands for all rows of a cluster. Where a cluster has none,
-    it is the last one that is told.
-    """
-    masks = web_masks(other)
-    parts = []
-    known = {}
-    total = 1
-    for cluster in clusters_of(web):
-        order, behind = course(web, cluster)
-        if behind not in known:
-            known[behind] = Search(order, behind, masks).found_rows(most if total <= most else 0)
-        parts.append((order, known[behind]))
-        total = total * len(known[behind])
-        if total == 0:
-            break
-    return parts

@@ -2,9 +2,9 @@
 
 from justthese.asking import ask_number, has_each_once
 from justthese.checks import is_row
-from justthese.courses import laid_parts
 from justthese.errors import TooMany
 from justthese.joining import joined_rows, with_part
+from justthese.laid import laid_parts
 from justthese.webs import ask_web
 
 MOST_LAYINGS = 1000

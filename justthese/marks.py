@@ -9,7 +9,7 @@ def _finer(near, colours):
 
 
 def mark_of(web):
-    """The mark of a web: places are coloured finer and finer, and no colour depends on a name."""
+    """The mark of a web, and the colours of its places: ever finer ones, of which none depends on a name."""
     near = [web.beside(place) for place in range(web.many)]
     colours = [0] * web.many
     told = [web.many]
@@ -18,4 +18,4 @@ def mark_of(web):
         many = max(colours) + 1
         keys, colours = _finer(near, colours)
         told.append(tuple(sorted(keys)))
-    return tuple(told)
+    return tuple(told), colours

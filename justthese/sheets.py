@@ -4,7 +4,7 @@ from justthese.checks import is_row
 from justthese.errors import BadPairs
 from justthese.masks import bits_of, web_masks
 from justthese.reaching import clusters_by
-from justthese.webs import ask_web
+from justthese.webs import Web, ask_web
 
 
 def triangles(web):
@@ -62,6 +62,13 @@ def sheet_of(web, tie):
         raise BadPairs("tie")
     ascending = (min(tie[0], tie[1]), max(tie[0], tie[1]))
     return [sheet for sheet in sheets(web) if ascending in sheet][0]
+
+
+def sheet_web(sheet):
+    """The places on a sheet, ascending, and the web that it makes of them: its place k is places[k]."""
+    places = sorted({place for tie in sheet for place in tie})
+    number = {place: k for k, place in enumerate(places)}
+    return places, Web(len(places), [(number[low], number[high]) for low, high in sheet])
 
 
 def clusters_of(web):

@@ -9,8 +9,8 @@ from justthese.plans import ARROW_LENGTH, told_arrows
 from justthese.worlds import MOST_PLACES, MOST_ROWS, World, are_lengths
 
 # What a place of a spread is, if it is no knot of a relation.
-PEG = -1
-PLACE = -2
+PEG = "peg"
+PLACE = "place"
 
 
 class Unspread(Paper):
@@ -106,7 +106,7 @@ def spread_row(world, other, row):
 
 
 def _sorts(plan, lengths):
-    """For each place of a plan its sort: a relation for a knot, -1 for a peg, -2 for a place of the world, or None."""
+    """For each place of a plan its sort: a relation for a knot, what stands for a peg or a place, or None."""
     last = len(plan.lengths) - 1
     sort_of = {
         tuple(range(first, first + length)): relation

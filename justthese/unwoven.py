@@ -8,8 +8,8 @@ from justthese.layings import some_laying
 from justthese.marks import mark_of
 from justthese.papers import Denial, Paper
 from justthese.plans import ARROW_LENGTH
-from justthese.sheets import sheets
-from justthese.webs import Web, ask_web
+from justthese.sheets import sheet_web, sheets
+from justthese.webs import ask_web
 from justthese.worlds import MOST_PLACES, World
 
 
@@ -54,16 +54,16 @@ class Kinds:
         self.sizes = {(clasp.web.many, len(clasp.web.ties)): True for clasp in box.clasps}
         self.marks = {}
         for kind, clasp in enumerate(box.clasps):
-            self.marks.setdefault(mark_of(clasp.web), []).append(kind)
+            mark, _ = mark_of(clasp.web)
+            self.marks.setdefault(mark, []).append(kind)
 
     def copy_of(self, sheet):
         """The pair of a kind and the places on which its places lie, if a sheet is a clasp, renamed; or None."""
-        places = sorted({place for tie in sheet for place in tie})
+        places, web = sheet_web(sheet)
         if (len(places), len(sheet)) not in self.sizes:
             return None
-        number = {place: k for k, place in enumerate(places)}
-        web = Web(len(places), [(number[low], number[high]) for low, high in sheet])
-        for kind in self.marks.get(mark_of(web), []):
+        mark, _ = mark_of(web)
+        for kind in self.marks.get(mark, []):
             # A clasp is stiff: if the sheet is one, renamed, there is no other laying than that renaming.
             laying = some_laying(self.clasps[kind].web, web)
             if laying is not None and has_each_once(laying):

@@ -41,6 +41,51 @@ FUNCTIONS = {
     },
     "walks": {"count_layings": "code, web", "strip_layings": "code, web, most=200"},
     "clasps": {"judged_clasp": "web, first, last", "turned_about": "clasp", "strip_clasp": "code"},
+    "boxes": {"judged_box": "clasps", "strip_box": "many"},
+    "check_clasps": {
+        "shows_code": "code, value",
+        "shows_strip": "web, value",
+        "shows_clasp": "web, first, last, value",
+        "shows_box": "clasps, value",
+    },
+    "plans": {"judged_plan": "world", "arrows": "world"},
+    "woven": {"all_layings": "woven, other, most=200"},
+    "unwoven": {"judged_woven": "web, box"},
+    "check_woven": {"shows_woven": "web, box, value"},
+    "spread": {"spread": "world", "spread_row": "world, other, row", "judged_spread": "plan, lengths"},
+    "doubled": {"doubled": "world", "doubled_row": "world, other, row", "judged_doubled": "plan, lengths"},
+    "world_webs": {
+        "web_of": "world, way",
+        "laying_of": "world, other, row, way",
+        "row_of": "world, other, laying, way",
+        "world_in": "web, lengths, way",
+    },
+    "carried": {"carried": "world, other, paper, way"},
+    "colouring": {"colouring": "woven", "is_colouring": "web, value, many"},
+    "tables": {"still_of": "rows", "judged_table": "rows"},
+    "makers": {"made": "table, makers", "spellings": "table, makers", "some_makers": "table"},
+    "table_webs": {
+        "table_world": "table, makers=None",
+        "table_web": "table, makers=None",
+        "deed_row": "table, deed",
+        "deed_laying": "table, deed, makers=None",
+        "deed_of": "table, laying, makers=None",
+        "square_world": "rows",
+        "square_web": "rows",
+        "passing": "rows",
+    },
+    "deeds": {"deeds_of": "web", "renamings": "table, other, most=200"},
+    "lots": {
+        "judged_moves": "moves",
+        "completed": "moves",
+        "lot_world": "moves",
+        "lot_web": "moves",
+        "passing_moves": "moves",
+        "move_laying": "moves, move",
+        "move_of": "moves, laying",
+        "lot_table": "moves",
+    },
+    "check_tables": {"shows_table": "rows, value", "shows_moves": "moves, value"},
 }
 CLASSES = {
     "papers": {"Paper": "self, word, *parts", "Denial": "self, word, *parts"},
@@ -64,6 +109,25 @@ CLASSES = {
         "Moving": "self, laying",
         "Clasp": "self, web, first, last",
     },
+    "boxes": {"Unlike": "self", "Crossing": "self, one, other, laying", "Box": "self, clasps"},
+    "plans": {"Plain": "self", "Long": "self, relation", "Loop": "self, relation, place"},
+    "woven": {"Woven": "self, world, box"},
+    "unwoven": {
+        "Unwoven": "self, world, names",
+        "Strange": "self, tie",
+        "Shared": "self, place",
+        "Twice": "self, tie",
+    },
+    "spread": {"Unspread": "self, world, names", "Wrong": "self, place", "Twins": "self, one, other"},
+    "doubled": {"Undoubled": "self, world, names", "Astray": "self, relation, one, other"},
+    "world_webs": {"Found": "self, world, names"},
+    "tables": {
+        "Deeds": "self, still",
+        "Unstill": "self, moved",
+        "Triple": "self, one, other, third",
+        "Table": "self, rows",
+    },
+    "lots": {"Complete": "self", "NoStill": "self", "Outside": "self, one, other"},
 }
 METHODS = {
     ("webs", "Web"): {
@@ -76,6 +140,9 @@ METHODS = {
     ("papers", "Paper"): {"__eq__": "self, other"},
     ("papers", "Denial"): {"__eq__": "self, other"},
     ("clasps", "Clasp"): {"__eq__": "self, other"},
+    ("boxes", "Box"): {"__eq__": "self, other", "__len__": "self"},
+    ("woven", "Woven"): {"__eq__": "self, other", "lifted": "self, other, row", "lowered": "self, other, laying"},
+    ("tables", "Table"): {"__eq__": "self, other", "__len__": "self", "then": "self, one, other"},
 }
 
 

@@ -216,6 +216,128 @@ class StiffWebs(unittest.TestCase):
         self.assertIs(is_stiff(both), True)
 
 
+PIECES = [THREE, full_web(4), Web(4, [(0, 1), (0, 2), (1, 2), (1, 3), (2, 3)])]
+
+
+def some_quilt(chance, most, share):
+    """Pieces of triangles put together on single places, or on two places; renamed."""
+    many, ties = 1, []
+    while True:
+        piece = chance.choice(PIECES)
+        there = {0: chance.randrange(many)}
+        if many > 2 and chance.random() < share:
+            there[piece.many - 1] = chance.choice([x for x in range(many) if x != there[0]])
+        if many + piece.many - len(there) > most:
+            return renamed_web(Web(many, ties), shuffled(chance, many))
+        for place in range(piece.many):
+            if place not in there:
+                there[place] = many
+                many += 1
+        ties += [(there[low], there[high]) for low, high in piece.ties]
+
+
+class Quilts(unittest.TestCase):
+    """Clusters of several sheets, each of which goes into one sheet."""
+
+    def is_due(self, web, other):
+        due = None
+        if other.many**web.many <= 60_000:
+            due = plain_layings(web, other)
+        told = raised(layings, web, other, 1000)
+        if due is None:
+            due = tuple(sorted(joined_layings(web, other)))
+        if len(due) > 1000:
+            self.assertEqual(told, ("TooMany", "layings", 1000))
+            return
+        self.assertIsNone(told)
+        self.assertEqual(layings(web, other, 1000), due)
+        found = some_laying(web, other)
+        self.assertEqual(found is None, due == ())
+        self.assertTrue(found is None or found in due)
+        if len(due) > 1:
+            self.assertEqual(layings(web, other, len(due)), due)
+            for most in {len(due) - 1, 1, len(due) // 2}:
+                self.assertEqual(raised(layings, web, other, most), ("TooMany", "layings", most))
+
+    def test_quilts(self):
+        chance = random.Random(10)
+        for _ in range(250):
+            web = some_quilt(chance, chance.choice([5, 6, 7, 8, 9]), chance.choice([0, 0.3, 0.6]))
+            if chance.random() < 0.5:
+                other = some_quilt(chance, chance.choice([4, 6, 9]), 0.3)
+            else:
+                other = some_web(chance, chance.randint(3, 6), chance.random())
+            self.is_due(web, other)
+            self.is_due(web, THREE)
+
+    def test_into_themselves(self):
+        chance = random.Random(11)
+        for _ in range(80):
+            web = some_quilt(chance, chance.choice([6, 7, 8]), 0.4)
+            self.is_due(web, web)
+            due = moving_laying(web)
+            stiff = raised(layings, web, web, 1) is None
+            self.assertEqual(due is None, stiff)
+            self.assertIs(is_stiff(web), stiff)
+            if due is not None:
+                self.assertTrue(is_laying(web, web, due) and due != tuple(range(web.many)))
+
+    def test_two_quilts_side_by_side(self):
+        chance = random.Random(12)
+        for _ in range(40):
+            one, two = some_quilt(chance, 6, 0.3), some_quilt(chance, 6, 0.3)
+            both = Web(one.many + two.many, [*one.ties, *((x + one.many, y + one.many) for x, y in two.ties)])
+            other = some_quilt(chance, 5, 0.3)
+            many = [len(joined_layings(web, other)) for web in (one, two)]
+            if 0 < many[0] * many[1] <= 1000:
+                self.assertEqual(len(layings(both, other, 1000)), many[0] * many[1])
+            else:
+                told = None if many[0] * many[1] == 0 else ("TooMany", "layings", 1000)
+                self.assertEqual(raised(layings, both, other, 1000), told)
+
+    def test_short_time(self):
+        # A chain of triangles, each on one place of the last one; and with a far end that fits nowhere.
+        chain = Web(601, [tie for x in range(0, 600, 2) for tie in ((x, x + 1), (x, x + 2), (x + 1, x + 2))])
+        told, seconds = timed(raised, layings, chain, chain, 1000)
+        self.assertEqual(told, ("TooMany", "layings", 1000))
+        self.assertLess(seconds, 10)
+        end = Web(603, [*chain.ties, (600, 601), (600, 602), (599, 601), (599, 602), (601, 602)])
+        told, seconds = timed(layings, end, chain)
+        self.assertEqual(told, ())
+        self.assertLess(seconds, 10)
+        # Many places beside each other: more layings of a triangle than are kept.
+        great = full_web(155)
+        told, seconds = timed(raised, layings, chain, great, 1000)
+        self.assertEqual(told, ("TooMany", "layings", 1000))
+        self.assertLess(seconds, 10)
+        # The woven web of a plan of 16 places and 6 kinds.
+        chance = random.Random(13)
+        clasps = [strip_clasp(code) for code in good_codes(5)]
+        web = woven_web(16, some_arrows(chance, 16, 6, 140), clasps)
+        web = renamed_web(web, shuffled(chance, web.many))
+        told, seconds = timed(layings, web, web)
+        self.assertIn(tuple(range(web.many)), told)
+        self.assertLess(seconds, 10)
+
+
+def joined_layings(web, other):
+    """All layings, each place behind one that is beside it."""
+    near = [set(other.beside(place)) for place in range(other.many)]
+    order = [0]
+    while len(order) < web.many:
+        order.append(next(x for x in range(web.many) if x not in order and set(web.beside(x)) & set(order)))
+    rows = [{}]
+    for place in order:
+        behind = [x for x in web.beside(place) if x in order[: order.index(place)]]
+        rows = [
+            {**row, place: image}
+            for row in rows
+            for image in range(other.many)
+            if all(image in near[row[x]] for x in behind)
+        ]
+    return [tuple(row[x] for x in range(web.many)) for row in rows]
+
+
 class ShortTime(unittest.TestCase):
     def in_time(self, call, *args):
         def answered():
