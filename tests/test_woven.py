@@ -154,6 +154,10 @@ class Made(unittest.TestCase):
         woven = Woven(World([2], 30, [pairs[:244]]), dense)
         self.assertEqual((woven.web.many, len(woven.web.ties)), (30 + 244 * 10, 244 * 49))
         self.assertEqual(raised(Woven, World([2], 30, [pairs[:245]]), dense), ("TooMany", "ties", 12000))
+        # A clasp of 9 places and 25 ties: just 12,000 ties, and more.
+        nine = Box(NINES.clasps[:1])
+        self.assertEqual(len(Woven(World([2], 30, [pairs[:480]]), nine).web.ties), 12000)
+        self.assertEqual(raised(Woven, World([2], 30, [pairs[:481]]), nine), ("TooMany", "ties", 12000))
         # Both at once: places come first.
         self.assertEqual(raised(Woven, World([2], 30, [pairs[:500]]), dense), ("TooMany", "places", 4000))
 
