@@ -5,6 +5,9 @@ from justthese.masks import web_masks
 from justthese.patches import Ground, quilt_patches, quilted_rows
 from justthese.sheets import clusters_of, sheets
 
+# In a cluster of no more places a search from place to place is short, and sheets may have many layings.
+MOST_SEARCHED = 24
+
 
 class Layer:
     """The search for the layings of the clusters of a web into another one."""
@@ -13,17 +16,13 @@ class Layer:
         self.web = web
         self.other = other
         self.masks = web_masks(other)
-        self.sheets_at = {}
-        for sheet in sheets(web):
-            self.sheets_at.setdefault(sheet[0][0], []).append(sheet)
+        self.sheets_at = None
         self.ground = None
         self.known = {}
 
     def laid(self, cluster, most):
         """The places of a cluster in some order, and the rows that they may get: all, or more than most."""
-        told = [sheet for place in cluster for sheet in self.sheets_at.get(place, [])]
-        patches = quilt_patches(told)
-        rows = None if patches is None else self.quilted(cluster, patches, most)
+        rows = self.quilted(cluster, most) if len(cluster) > MOST_SEARCHED else None
         if rows is not None:
             return list(cluster), rows
         order, behind = course(self.web, cluster)
@@ -31,8 +30,19 @@ class Layer:
             self.known[behind] = Search(order, behind, self.masks).found_rows(most)
         return order, self.known[behind]
 
-    def quilted(self, cluster, patches, most):
-        """The rows that the places of a cluster of patches may get, or None; the other web's patches are made once."""
+    def sheets_of(self, cluster):
+        """The sheets of a cluster."""
+        if self.sheets_at is None:
+            self.sheets_at = {}
+            for sheet in sheets(self.web):
+                self.sheets_at.setdefault(sheet[0][0], []).append(sheet)
+        return [sheet for place in cluster for sheet in self.sheets_at.get(place, [])]
+
+    def quilted(self, cluster, most):
+        """The rows that a cluster of patches may get: all, or more than most; None if it is none, or too great."""
+        patches = quilt_patches(self.sheets_of(cluster))
+        if patches is None:
+            return None
         if self.ground is None:
             self.ground = Ground(self.other)
         return quilted_rows(cluster, patches, self.ground, most)

@@ -15,7 +15,7 @@ from justthese.webs import renamed_web
 
 LEAST_TIES = 3
 MOST_PATCH_PLACES = 20
-MOST_PATCH_ROWS = 20000
+MOST_PATCH_ROWS = 2000
 
 
 class Patch:

@@ -6,6 +6,7 @@ import unittest
 
 from justthese.clasps import strip_clasp
 from justthese.errors import TooMany
+from justthese.laid import Layer
 from justthese.layings import is_laying, is_stiff, is_turn, layings, moving_laying, some_laying
 from justthese.strips import closed_strip, good_codes
 from justthese.webs import Web, renamed_web
@@ -246,6 +247,7 @@ class Quilts(unittest.TestCase):
         told = raised(layings, web, other, 1000)
         if due is None:
             due = tuple(sorted(joined_layings(web, other)))
+        self.is_quilted(web, other, due)
         if len(due) > 1000:
             self.assertEqual(told, ("TooMany", "layings", 1000))
             return
@@ -259,6 +261,22 @@ class Quilts(unittest.TestCase):
             for most in {len(due) - 1, 1, len(due) // 2}:
                 self.assertEqual(raised(layings, web, other, most), ("TooMany", "layings", most))
 
+    def is_quilted(self, web, other, due):
+        """Asks the joining of sheets alone, which is taken for clusters of more places."""
+        cluster = tuple(range(web.many))
+        for most in (0, 1, max(0, len(due) - 1), len(due), 1000):
+            rows = Layer(web, other).quilted(cluster, most)
+            self.quilts.append(rows is not None)
+            if rows is not None and len(due) <= most:
+                self.assertEqual(sorted(rows), list(due))
+            elif rows is not None:
+                self.assertGreater(len(rows), most)
+                self.assertEqual(len(set(rows)), len(rows))
+                self.assertTrue(set(rows) <= set(due))
+
+    def setUp(self):
+        self.quilts = []
+
     def test_quilts(self):
         chance = random.Random(10)
         for _ in range(250):
@@ -269,6 +287,7 @@ class Quilts(unittest.TestCase):
                 other = some_web(chance, chance.randint(3, 6), chance.random())
             self.is_due(web, other)
             self.is_due(web, THREE)
+        self.assertGreater(self.quilts.count(True), 1000)
 
     def test_into_themselves(self):
         chance = random.Random(11)
