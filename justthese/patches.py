@@ -16,6 +16,7 @@ from justthese.webs import renamed_web
 LEAST_TIES = 3
 MOST_PATCH_PLACES = 20
 MOST_PATCH_ROWS = 2000
+MOST_PATTERN_PAIRS = 10000
 
 
 class Patch:
@@ -152,7 +153,10 @@ def quilt_patches(told):
 
 
 def quilted_rows(cluster, patches, ground, most):
-    """All rows of images of the places of a cluster, or more than most; None if the ground has too many for one."""
+    """All rows of images of the places of a cluster, or more than most; None if that asks for too much ahead of it."""
+    patterns = {patch.pattern: True for patch in patches}
+    if len(patterns) * len(ground.by_pattern) > MOST_PATTERN_PAIRS:
+        return None
     if None in [ground.rows_for(patch) for patch in patches]:
         return None
     return Quilt(patches, ground).rows_on(cluster, most)
