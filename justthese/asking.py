@@ -2,7 +2,7 @@
 
 from justthese.checks import is_code, is_row, is_within
 from justthese.errors import BadCode, BadMap, BadNumber, BadWorld, Misfit
-from justthese.worlds import World
+from justthese.worlds import World, are_lengths
 
 
 def ask_number(value, part, least, most):
@@ -26,6 +26,12 @@ def ask_code(code):
     """Raises unless a value is a code."""
     if not is_code(code):
         raise BadCode("code")
+
+
+def ask_lengths(lengths):
+    """Raises unless a value is a list of lengths, as a world may have them."""
+    if not are_lengths(lengths):
+        raise BadWorld("lengths")
 
 
 def ask_world(value, part):

@@ -69,29 +69,29 @@ def _by_pattern(rows, pattern):
     """The values that rows give to the places of a pattern, where one place gets one value."""
     first = [pattern.index(slot) for slot in range(max(pattern) + 1)]
     again = [(index, first[slot]) for index, slot in enumerate(pattern) if first[slot] != index]
-    return {
-        tuple([row[index] for index in first]): True
-        for row in rows
-        if all([row[index] == row[ahead] for index, ahead in again])
-    }
+    for index, ahead in again:
+        rows = [row for row in rows if row[index] == row[ahead]]
+    return [tuple([row[index] for index in first]) for row in rows]
 
 
-def _allowed(other, asks):
-    """The rows of values that meet all that is asked of some places."""
-    allowed = None
-    for relation, pattern in asks:
-        told = _by_pattern(other.rows[relation], pattern)
-        allowed = told if allowed is None else {row: True for row in allowed if row in told}
-    return list(allowed)
+def _allowed(other, there, asks):
+    """The rows of values that meet all that is asked of some places; there has the other world's rows as keys."""
+    relation, pattern = asks[0]
+    allowed = _by_pattern(other.rows[relation], pattern)
+    for relation, pattern in asks[1:]:
+        rows = there[relation]
+        allowed = [values for values in allowed if tuple([values[slot] for slot in pattern]) in rows]
+    return allowed
 
 
 def merged_bonds(world, other):
     """One bond for each lot of places on which rows stand; each place has one slot in it."""
     bonds = []
     known = {}
+    there = [{row: True for row in rows} for rows in other.rows]
     for places, asks in _asked(world).items():
         key = tuple(asks)
         if key not in known:
-            known[key] = Lot(_allowed(other, asks), len(places), other.many)
+            known[key] = Lot(_allowed(other, there, asks), len(places), other.many)
         bonds.append(Bond(places, known[key]))
     return bonds

@@ -1,11 +1,11 @@
 """The doubled plan of a world of lengths 1 and 2: a front and a back for each place."""
 
-from justthese.asking import ask_one_signature, ask_world, ask_worlds
+from justthese.asking import ask_lengths, ask_one_signature, ask_world, ask_worlds
 from justthese.errors import BadMap, Misfit
 from justthese.maps import is_map
 from justthese.papers import Denial, Paper
 from justthese.plans import ARROW_LENGTH, told_arrows
-from justthese.spread import Wrong, ask_lengths, ask_plan, ask_plan_size
+from justthese.spread import Wrong, ask_plan, ask_plan_size
 from justthese.worlds import World
 
 

@@ -7,7 +7,7 @@ from justthese.tables import ask_table
 
 
 def ask_makers(table, makers):
-    """Raises unless a value is a list of unlike deeds of a table."""
+    """Raises unless a value is a list of unlike deeds of a table, or of unlike ways of a house."""
     if not is_row(makers, None, len(table)) or not has_each_once(makers):
         raise BadMakers("makers")
 

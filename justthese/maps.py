@@ -5,7 +5,7 @@ from justthese.bonds import merged_bonds
 from justthese.checks import is_row
 from justthese.errors import BadMap, Misfit, TooMany
 from justthese.fields import Field
-from justthese.joining import joined_rows
+from justthese.joining import joined_rows, with_part
 from justthese.reaching import clusters_by
 
 MOST_MAPS = 1000
@@ -59,6 +59,27 @@ def clusters(world):
 def field_of_maps(world, other):
     """The field whose rows of values are the maps of a world into another one."""
     return Field(world.many, other.many, merged_bonds(world, other))
+
+
+def some_map(world, other):
+    """A map of a world into another one of one signature with it, any such; None if there is none."""
+    field = field_of_maps(world, other)
+    row = [0] * world.many
+    for cluster in clusters(world):
+        told = field.found(cluster, 0)
+        if len(told) == 0:
+            return None
+        row = with_part(row, cluster, told[0])
+    return tuple(row)
+
+
+def every_map(world, other):
+    """All maps of a small world into a small one of one signature with it, in any order."""
+    field = field_of_maps(world, other)
+    parts = [(cluster, field.found(cluster, MOST_OF_CLUSTER)) for cluster in clusters(world)]
+    if [] in [told for _, told in parts]:
+        return []
+    return joined_rows(world.many, parts)
 
 
 def maps(world, other, most=300):

@@ -1,12 +1,12 @@
 """The spread of a world: a plan with the places, a knot for each row, and a peg for each place."""
 
-from justthese.asking import ask_one_signature, ask_world, ask_worlds
+from justthese.asking import ask_lengths, ask_one_signature, ask_world, ask_worlds
 from justthese.boxes import MOST_KINDS
-from justthese.errors import BadMap, BadWorld, Misfit, TooMany
+from justthese.errors import BadMap, Misfit, TooMany
 from justthese.maps import is_map
 from justthese.papers import Denial, Paper
 from justthese.plans import ARROW_LENGTH, told_arrows
-from justthese.worlds import MOST_PLACES, MOST_ROWS, World, are_lengths
+from justthese.worlds import MOST_PLACES, MOST_ROWS, World
 
 # What a place of a spread is, if it is no knot of a relation.
 PEG = "peg"
@@ -53,12 +53,6 @@ def ask_plan(plan, kinds):
     """Raises unless a world has so many relations, all of length 2."""
     if plan.lengths != (ARROW_LENGTH,) * kinds:
         raise Misfit("lengths")
-
-
-def ask_lengths(lengths):
-    """Raises unless a value is a list of lengths, as a world may have them."""
-    if not are_lengths(lengths):
-        raise BadWorld("lengths")
 
 
 def first_kinds(lengths):

@@ -8,9 +8,14 @@ SPREAD = "spread"
 DOUBLED = "doubled"
 
 
+def is_way(value):
+    """Whether any value is a way."""
+    return isinstance(value, str) and value in (SPREAD, DOUBLED)
+
+
 def ask_way(way):
     """Raises unless a value is a way."""
-    if not isinstance(way, str) or way not in (SPREAD, DOUBLED):
+    if not is_way(way):
         raise BadText("way")
 
 

@@ -1,12 +1,12 @@
 """The webs of worlds, whose layings are the maps of the worlds, and the worlds found again in webs."""
 
-from justthese.asking import ask_one_signature, ask_world, ask_worlds
+from justthese.asking import ask_lengths, ask_one_signature, ask_world, ask_worlds
 from justthese.boxes import MOST_KINDS, strip_box
 from justthese.doubled import are_short, judged_doubled
 from justthese.errors import BadMap, Misfit, TooMany
 from justthese.maps import is_map
 from justthese.papers import Paper
-from justthese.spread import ask_lengths, judged_spread
+from justthese.spread import judged_spread
 from justthese.unwoven import judged_woven
 from justthese.ways import DOUBLED, SPREAD, ask_way, kinds_by, plan_by, row_by
 from justthese.webs import ask_web
@@ -22,12 +22,21 @@ class Found(Paper):
         self.names = self.parts[1]
 
 
+def webs_of(worlds, way):
+    """The woven webs of worlds of one signature, by a way, of which nothing is asked."""
+    told = []
+    for world in worlds:
+        plan = plan_by(world, way)
+        # Plans of one signature have equally many relations, so the box is the same.
+        told.append(Woven(plan, told[0].box if told else strip_box(len(plan.lengths))))
+    return tuple(told)
+
+
 def web_of(world, way):
     """The woven web of a world, by a way."""
     ask_world(world, "world")
     ask_way(way)
-    plan = plan_by(world, way)
-    return Woven(plan, strip_box(len(plan.lengths)))
+    return webs_of([world], way)[0]
 
 
 def _two_webs(world, other, way):
@@ -35,9 +44,7 @@ def _two_webs(world, other, way):
     ask_worlds(world, other)
     ask_way(way)
     ask_one_signature(world, other)
-    woven = web_of(world, way)
-    # Plans of one signature have equally many relations, so the box is the same.
-    return woven, Woven(plan_by(other, way), woven.box)
+    return webs_of([world, other], way)
 
 
 def laying_of(world, other, row, way):

@@ -534,6 +534,135 @@ raises Misfit('moves')
 [True, False, True, False]
 """,
     ),
+    (
+        "houses",
+        r"""
+>>> porch = House(2, [(0, 0), (0, 1), (1, 1)], [[0, 1, None], [None, None, 1], [None, None, 2]])
+>>> [porch.still, porch.then(0, 1), porch.then(1, 2), porch.between(0, 1), porch.between(1, 0), len(porch)]
+[(0, 2), 1, 1, (1,), (), 3]
+>>> [turned_house(porch).ways, turned_house(porch).rows]
+[((0, 0), (1, 0), (1, 1)), ((0, None, None), (1, None, None), (None, 1, 2))]
+>>> [judged_house(2, [(0, 0), (0, 1)], [[0, 1], [None, None]]).parts, judged_house(1, [(0, 0), (0, 0)], [[0, 0], [1, 1]]).parts]
+[(1, ()), (0, (1, 0))]
+>>> lame = [[0, 1, 2], [1, 2, 1], [2, 2, 2]]
+>>> [judged_house(1, [(0, 0)] * 3, lame) == Triple(1, 1, 1), table_house(Table([[0, 1], [1, 1]])).ways]
+[True, ((0, 0), (0, 0))]
+>>> porch.then(1, 0)
+raises Misfit('other')
+>>> House(2, [(0, 0), (0, 1)], [[0, 1], [None, 1]])
+raises BadHouse('rows')
+""",
+    ),
+    (
+        "house_webs",
+        r"""
+>>> [some_ways(porch), ways_to(porch, 1), way_row(porch, 1)]
+[(1,), (1, 2), (0,)]
+>>> [room_world(porch, 0).rows, room_world(porch, 1).rows]
+[(((0,),), (), ()), (((0,),), ((1,),), ((1, 0),))]
+>>> [maps(room_world(porch, one), room_world(porch, other)) for one, other in [(0, 0), (0, 1), (1, 0), (1, 1)]]
+[((0,),), ((0,),), (), ((0, 1),)]
+>>> yard, hall = [room_web(porch, room).web for room in (0, 1)]
+>>> [yard.many, hall.many, len(layings(yard, hall)), layings(hall, yard), way_laying(porch, 1)[:2]]
+[16, 39, 1, (), (0, 2)]
+>>> [way_of(porch, 0, 1, way_laying(porch, 1)), passing_ways(1, [(0, 0)] * 3, lame)]
+[1, (0, 2)]
+>>> room_world(porch, 1, [2])
+raises Misfit('makers')
+""",
+    ),
+    (
+        "orders",
+        r"""
+>>> [judged_order([[True, True], [False, True]]) == Ordered(), judged_order([[True, False], [False, False]]).parts]
+[True, (1,)]
+>>> judged_order([[True, True, False], [False, True, True], [False, False, True]]).parts
+(0, 1, 2)
+>>> [order_house([[True, True], [False, True]]) == porch, [woven.web.many for woven in order_webs([[True, True], [False, True]])]]
+[True, [16, 39]]
+>>> [order_house([[True, True], [True, True]]).ways, some_ways(order_house([[True, True], [True, True]]))]
+[((0, 0), (0, 1), (1, 0), (1, 1)), (1, 2)]
+>>> order_house([[True, 1], [False, True]])
+raises BadPairs('rows')
+""",
+    ),
+    (
+        "check_houses",
+        r"""
+>>> [shows_house(1, [(0, 0)] * 3, lame, Triple(1, 1, 1)), shows_house(2, [(0, 0), (0, 1)], [[0, 1], [None, None]], Restless(1, ())), shows_house(porch.rooms, porch.ways, porch.rows, Housed([0, 2]))]
+[True, True, True]
+>>> [shows_order([[True, False], [False, False]], Adrift(0)), shows_order([[True, False], [False, False]], Ordered()), shows_order([[True]], Ordered())]
+[False, False, True]
+""",
+    ),
+    (
+        "cores",
+        r"""
+>>> ring = World([2], 4, [[(0, 1), (1, 0), (1, 2), (2, 1), (2, 3), (3, 2), (3, 0), (0, 3)]])
+>>> [len(judged_core(ring).places), is_core(ring), is_core(part_of(ring, [0, 1])), is_core(World([], 1, []))]
+[2, False, True, True]
+>>> line = World([2], 3, [[(0, 1), (1, 2)]])
+>>> [judged_core(line).parts, is_core(line), is_core(World([2], 3, [[(0, 1), (1, 2), (2, 2)]]))]
+[((0, 1, 2), (0, 1, 2)), True, False]
+>>> [judged_core(World([2], 3, [[(0, 1), (1, 2), (2, 2)]])).parts, len(judged_core(World([], 5, [])).places)]
+[((2,), (2, 2, 2)), 1]
+>>> is_core(World([], 8, []))
+raises TooMany('places', 7)
+>>> folded = web_core(Woven(World([2], 4, [[(0, 1), (2, 3)]]), strip_box(1)))
+>>> [len(folded.places), len(folded.row)]
+[8, 16]
+""",
+    ),
+    (
+        "check_cores",
+        r"""
+>>> [shows_core(ring, judged_core(ring)), shows_core(ring, Core((1, 2), [2, 1, 2, 1])), shows_core(ring, Core((0, 2), (0, 0, 2, 2)))]
+[True, True, False]
+>>> [shows_core(ring, Core((1, 2), (1, 2, 1, 2))), shows_core(ring, Core((2, 1), (2, 1, 2, 1))), shows_core(ring, Core((0, 1, 2, 3), (0, 1, 2, 3)))]
+[False, False, False]
+>>> [shows_core(World([], 2, []), Core((False,), (0, 0))), shows_core(World([], 2, []), Core((0,), (0, 0)))]
+[False, True]
+""",
+    ),
+    (
+        "sums",
+        r"""
+>>> step, swap = World([2], 2, [[(0, 1)]]), World([2], 2, [[(0, 1), (1, 0)]])
+>>> [added(step, swap).many, added(step, swap).rows, times(step, swap).many, times(step, swap).rows]
+[4, (((0, 1), (2, 3), (3, 2)),), 4, (((0, 3), (1, 2)),)]
+>>> [one_world([2, 1]) == World([2, 1], 1, [[(0, 0)], [(0,)]]), times(one_world([2]), step) == step, one_world([]).many]
+[True, True, 1]
+>>> [count_maps(added(step, swap), swap), count_maps(swap, times(step, swap)), count_maps(step, times(step, swap))]
+[4, 0, 2]
+>>> added(step, World([1], 1, [[]]))
+raises Misfit('other')
+>>> times(World([], 30, []), World([], 21, []))
+raises TooMany('places', 600)
+>>> one_world([9])
+raises BadWorld('lengths')
+""",
+    ),
+    (
+        "powers",
+        r"""
+>>> [functions(step, swap), power(step, swap).rows]
+[((0, 0), (0, 1), (1, 0), (1, 1)), (((0, 1), (0, 3), (1, 1), (1, 3), (2, 0), (2, 2), (3, 0), (3, 2)),)]
+>>> [power(World([2], 1, [[]]), step).rows, power(one_world([2]), step) == step]
+[(((0, 0), (0, 1), (1, 0), (1, 1)),), True]
+>>> [curried(step, step, swap, (0, 0, 1, 1)), uncurried(step, step, swap, [0, 3])]
+[(0, 3), (0, 0, 1, 1)]
+>>> power(added(step, one_world([2])), swap) == times(power(step, swap), power(one_world([2]), swap))
+True
+>>> curried(step, step, swap, (0, 0, 1, 0))
+raises BadMap('row')
+>>> uncurried(step, step, swap, (0, 2))
+raises BadMap('row')
+>>> functions(World([], 5, []), World([], 3, []))
+raises TooMany('places', 81)
+>>> power(World([2], 2, [[]]), World([2], 6, [[]]))
+raises TooMany('tuples', 1000)
+""",
+    ),
 )
 
 

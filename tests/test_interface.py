@@ -86,6 +86,29 @@ FUNCTIONS = {
         "lot_table": "moves",
     },
     "check_tables": {"shows_table": "rows, value", "shows_moves": "moves, value"},
+    "houses": {"judged_house": "rooms, ways, rows", "table_house": "table", "turned_house": "house"},
+    "house_webs": {
+        "some_ways": "house",
+        "ways_to": "house, room",
+        "room_world": "house, room, makers=None",
+        "room_web": "house, room, makers=None",
+        "way_row": "house, way",
+        "way_laying": "house, way, makers=None",
+        "way_of": "house, one, other, laying, makers=None",
+        "ways_world": "rooms, ways, rows, room",
+        "passing_ways": "rooms, ways, rows",
+    },
+    "orders": {"judged_order": "rows", "order_house": "rows", "order_webs": "rows"},
+    "check_houses": {"shows_house": "rooms, ways, rows, value", "shows_order": "rows, value"},
+    "cores": {"judged_core": "world", "is_core": "world", "web_core": "woven"},
+    "check_cores": {"shows_core": "world, value", "shows_web_core": "woven, value"},
+    "sums": {"added": "world, other", "times": "world, other", "one_world": "lengths"},
+    "powers": {
+        "functions": "world, other",
+        "power": "world, other",
+        "curried": "first, world, other, row",
+        "uncurried": "first, world, other, row",
+    },
 }
 CLASSES = {
     "papers": {"Paper": "self, word, *parts", "Denial": "self, word, *parts"},
@@ -128,6 +151,9 @@ CLASSES = {
         "Table": "self, rows",
     },
     "lots": {"Complete": "self", "NoStill": "self", "Outside": "self, one, other"},
+    "houses": {"Housed": "self, still", "Restless": "self, room, moved", "House": "self, rooms, ways, rows"},
+    "orders": {"Ordered": "self", "Adrift": "self, place", "Gap": "self, one, other, third"},
+    "cores": {"Core": "self, places, row"},
 }
 METHODS = {
     ("webs", "Web"): {
@@ -143,6 +169,12 @@ METHODS = {
     ("boxes", "Box"): {"__eq__": "self, other", "__len__": "self"},
     ("woven", "Woven"): {"__eq__": "self, other", "lifted": "self, other, row", "lowered": "self, other, laying"},
     ("tables", "Table"): {"__eq__": "self, other", "__len__": "self", "then": "self, one, other"},
+    ("houses", "House"): {
+        "__eq__": "self, other",
+        "__len__": "self",
+        "then": "self, one, other",
+        "between": "self, one, other",
+    },
 }
 
 

@@ -70,6 +70,15 @@ class Files(unittest.TestCase):
                 if isinstance(node, ast.FunctionDef):
                     self.assertLessEqual(node.end_lineno - node.lineno + 1, 40, (name, node.name))
 
+    def is_plain(self, value, names):
+        """Asks for a plain value, or a dict of functions that are defined above it."""
+        if isinstance(value, ast.Dict) and value.values and isinstance(value.values[0], ast.Name):
+            for key, told in zip(value.keys, value.values):
+                ast.literal_eval(key)
+                self.assertIn(told.id, names)
+        else:
+            ast.literal_eval(value)
+
     def test_module_level(self):
         plain = (ast.ImportFrom, ast.FunctionDef, ast.ClassDef, ast.Assign)
         for name, _, tree in sources():
@@ -78,7 +87,7 @@ class Files(unittest.TestCase):
             for node in tree.body[1:]:
                 self.assertIsInstance(node, plain, (name, node.lineno))
                 if isinstance(node, ast.Assign):
-                    ast.literal_eval(node.value)
+                    self.is_plain(node.value, names)
                     names += [target.id for target in node.targets]
                 elif isinstance(node, ast.ImportFrom):
                     names += [told.name for told in node.names]
