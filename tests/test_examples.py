@@ -663,6 +663,185 @@ raises TooMany('places', 81)
 raises TooMany('tuples', 1000)
 """,
     ),
+    (
+        "glued",
+        r"""
+>>> [groupings(1), groupings(3), [len(groupings(many)) for many in (2, 4, 5)]]
+[((0,),), ((0, 0, 0), (0, 0, 1), (0, 1, 0), (0, 1, 1), (0, 1, 2)), [2, 15, 52]]
+>>> [grouping_of((7, 3, 7, 0)), grouping_of([4])]
+[(0, 1, 0, 2), (0,)]
+>>> line, three = World([2], 3, [[(0, 1), (1, 2)]]), World([2], 3, [[(0, 1), (0, 2), (1, 0), (1, 2), (2, 0), (2, 1)]])
+>>> [glued(line, groups).rows[0] for groups in groupings(3)]
+[((0, 0),), ((0, 0), (0, 1)), ((0, 1), (1, 0)), ((0, 1), (1, 1)), ((0, 1), (1, 2))]
+>>> [count_one_to_one(line, three), counts_glued(line, three), count_maps(line, three), count_one_to_one(three, line)]
+[6, (0, 0, 6, 0, 6), 12, 0]
+>>> glued(line, (0, 2, 1))
+raises BadGroups('groups')
+>>> glued(line, (0, 1))
+raises BadGroups('groups')
+>>> groupings(6)
+raises BadNumber('many')
+>>> count_one_to_one(World([], 6, []), World([], 2, []))
+raises TooMany('places', 5)
+""",
+    ),
+    (
+        "testers",
+        r"""
+>>> up, both = World([2], 2, [[(0, 1)]]), World([2], 2, [[(0, 1), (1, 0)]])
+>>> [len(testers(up, both)), testers(up, both)[0].rows, counts_into(up, testers(up, both)), counts_into(both, testers(up, both))]
+[4, (((0, 0),),), (0, 1, 0, 0), (0, 2, 0, 2)]
+>>> [judged_alike(up, both).word, judged_alike(line, World([2], 3, [[(2, 0), (0, 1)]])) == Alike([2, 0, 1])]
+['parted', True]
+>>> [tester_of(up, both, Parted(0, (0, 1), 1, 2)) == up, tester_of(up, both, Parted(1, [0, 0], 9, 9)).rows]
+[True, (((0, 0),),)]
+>>> tester_of(up, both, Alike((0, 1)))
+raises BadPaper('paper')
+>>> testers(up, World([], 2, []))
+raises Misfit('other')
+>>> judged_alike(World([], 6, []), World([], 2, []))
+raises TooMany('places', 5)
+""",
+    ),
+    (
+        "check_testers",
+        r"""
+>>> [shows_alike(up, both, Parted(0, (0, 1), 1, 2)), shows_alike(up, both, Parted(1, (0, 1), 0, 2)), shows_alike(up, both, Parted(0, (0, 1), 2, 1)), shows_alike(up, both, Parted(0, (0, 0), 0, 0))]
+[True, True, False, False]
+>>> [shows_alike(up, both, Alike((0, 1))), shows_alike(up, up, Alike((0, 1))), shows_alike(up, up, Parted(0, (0, 1), 1, 1)), shows_alike(up, both, None)]
+[False, True, False, False]
+""",
+    ),
+    (
+        "puzzles",
+        r"""
+>>> small = Puzzle(3, 3, [("apart", (0, 1), ()), ["apart", [1, 2], []], ("sum", (0, 1, 2), (4,)), ("among", (0,), (1, 0, 1))])
+>>> [small.clauses[3], small.shapes, solutions(small), small.fails([0, 1, 1]), small.fails((1, 2, 1))]
+[('among', (0,), (0, 1)), (('apart', 2, ()), ('sum', 3, (4,)), ('among', 1, (0, 1))), ((1, 2, 1),), (1, 2), ()]
+>>> [world.rows for world in puzzle_worlds(small)]
+[(((0, 1), (1, 2)), ((0, 1, 2),), ((0,),)), (((0, 1), (0, 2), (1, 0), (1, 2), (2, 0), (2, 1)), ((0, 2, 2), (1, 1, 2), (1, 2, 1), (2, 0, 2), (2, 1, 1), (2, 2, 0)), ((0,), (1,)))]
+>>> [judged_puzzle(small) == Mapped((1, 2, 1)), judged_puzzle(Puzzle(2, 1, [("apart", (0, 1), ())])).word, is_solution(small, [1, 2, 1]), is_solution(small, (1, 2)), is_solution(small, "121")]
+[True, 'nomap', True, False, False]
+>>> [solutions(Puzzle(4, 5, [("rising", (0, 1, 2, 3), ()), ("count", (0, 1, 2, 3), (2, 0))])), solutions(Puzzle(2, 4, [("equal", (0, 1), ()), ("sum", (0, 0, 1), (6,))])), solutions(Puzzle(1, 2, [("apart", (0, 0), ())]))]
+[((0, 1, 3, 4),), ((2, 2),), ()]
+>>> chain = puzzle_of(World([2], 2, [[(0, 1), (1, 1)]]), World([2], 3, [[(0, 1), (1, 2), (2, 2)]]))
+>>> [chain.clauses[0], chain.shapes == (("listed", 2, ((0, 1), (1, 2), (2, 2))),), solutions(chain)]
+[('listed', (0, 1), ((0, 1), (1, 2), (2, 2))), True, ((1, 2), (2, 2))]
+>>> Puzzle(2, 2, [("apart", (0, 2), ())])
+raises BadPuzzle('clauses')
+>>> Puzzle(2, 2, [("sum", (0, 1), ())])
+raises BadPuzzle('clauses')
+>>> Puzzle(4, 12, [("sum", (0, 1, 2, 3), (44,))])
+raises TooMany('tuples', 5000)
+>>> Puzzle(3, 12, [("apart", (0, 1, 2), ())])
+raises TooMany('rows', 1000)
+>>> small.fails((0, 1, 3))
+raises BadMap('filling')
+>>> solutions(Puzzle(3, 3, []), 26)
+raises TooMany('solutions', 26)
+""",
+    ),
+    (
+        "puzzle_texts",
+        r"""
+>>> puzzle_text(small)
+'cells 3\nvalues 3\napart 0 1\napart 1 2\nsum 0 1 2 = 4\namong 0 = 0 1'
+>>> [read_puzzle(puzzle_text(small)) == small, puzzle_text(chain).split("\n")[2], read_puzzle("cells 1\nvalues 1\namong 0 =\nlisted 0 0 =").clauses]
+[True, 'listed 0 1 = 0 1 / 1 2 / 2 2', (('among', (0,), ()), ('listed', (0, 0), ()))]
+>>> read_puzzle("cells 2\nvalues 2\nlisted 0 1 = 1 1 / 0 1 / 1 1").clauses
+(('listed', (0, 1), ((0, 1), (1, 1))),)
+>>> read_puzzle("cells 2\nvalues 2\nlisted 0 1 = 1 1 / 0")
+raises BadLine(2, 8)
+>>> read_puzzle("cells 2\nvalues 2\nlisted 0 1 = / 1 1")
+raises BadLine(2, 4)
+>>> read_puzzle("cells 2\nvalues 2\nlisted 0 1 = 1 1 0")
+raises BadLine(2, 6)
+>>> read_puzzle("cells 2\nvalues 2\napart 0 1 = 3")
+raises BadLine(2, 3)
+>>> read_puzzle("cells 2\nvalues 2\nsum = 3")
+raises BadLine(2, 1)
+>>> read_puzzle("cells 2\nvalues 2\nsum 0 1 3")
+raises BadLine(2, 3)
+>>> read_puzzle("cells 2\nvalues 2\nsum 0 1")
+raises BadLine(2, 3)
+>>> read_puzzle("cells 2")
+raises BadLine(1, 0)
+>>> read_puzzle("cells 2\nvalues 2\n")
+raises BadLine(2, 0)
+>>> read_puzzle(None)
+raises BadText('text')
+""",
+    ),
+    (
+        "puzzle_webs",
+        r"""
+>>> two = Puzzle(2, 2, [("apart", (0, 1), ())])
+>>> [[len(woven.web) for woven in puzzle_webs(two, "doubled")], solution_laying(two, [1, 0], "doubled")[:4], solution_of(two, solution_laying(two, (1, 0), "doubled"), "doubled")]
+[[22, 28], (1, 0, 3, 2), (1, 0)]
+>>> solution_laying(two, (1, 1), "doubled")
+raises BadMap('filling')
+>>> puzzle_webs(small, "doubled")
+raises Misfit('way')
+>>> puzzle_webs(two, "woven")
+raises BadText('way')
+""",
+    ),
+    (
+        "pictures",
+        r"""
+>>> [web_picture(Web(3, [(0, 1), (1, 2)])), strip_picture("0101"), table_picture(Table([[0, 1], [1, 1]]))]
+[('o', '#o', '.#o'), ('o..o.o.o.', '.o..o...o', '..o...o..'), ('0 1', '1 1')]
+>>> web_picture(Web(201, []))
+raises TooMany('places', 200)
+""",
+    ),
+    (
+        "reader",
+        r"""
+>>> [words_of("show  a"), read_line("row a 0 1 2"), read_line("table t 0 1 1 1"), read_line("into 0111 0101"), read_line("web a doubled")]
+[('show', '', 'a'), ('row', 'a', 0, (1, 2)), ('table', 't', (0, 1, 1, 1)), ('into', '0111', '0101'), ('web', 'a', 'doubled')]
+>>> read_line("world A 2")
+raises BadLine(0, 1)
+>>> read_line("world a 02")
+raises BadLine(0, 2)
+>>> read_line("row a 0")
+raises BadLine(0, 3)
+>>> read_line("undo 1")
+raises BadLine(0, 1)
+>>> read_line("code 012")
+raises BadLine(0, 1)
+>>> read_line("jump a")
+raises BadLine(0, 0)
+""",
+    ),
+    (
+        "desk",
+        r"""
+>>> desk = Desk()
+>>> [desk.do("world a 2"), desk.do("relation a 2"), desk.do("row a 0 0 1"), desk.do("row a 0 0 0"), desk.do("show a")]
+[('world a',), ('relation 0',), ('rows 1',), ('rows 2',), ('places 2', 'relation 2', '0 0', '0 1')]
+>>> [desk.do("maps a a"), desk.do("web a doubled"), desk.do("layings a a doubled"), desk.do("core a"), desk.do("same a a")]
+[('maps 2', '0 0', '0 1'), ('places 28 ties 60 kinds 2',), ('layings 2',), ('core 0',), ('alike 0 1',)]
+>>> [desk.do("table t 0 1 1 1"), desk.do("show t"), desk.do("why t a"), desk.deeds]
+[('deeds 2 still 0',), ('places 2', 'relation 2', '0 1', '1 1'), ('map 0 0',), 5]
+>>> [desk.do("sum a t b"), desk.do("undo"), desk.do("product a t b"), [name for name, world in desk.worlds]]
+[('places 4 rows 4',), ('undone',), ('places 4 rows 4',), ['a', 'b', 't']]
+>>> [desk.do("code 0101"), desk.do("code 00"), desk.do("code 111"), desk.do("code 0111"), desk.do("into 0111 0101"), desk.do("strip 0")]
+[('stiff',), ('touching 1 2',), ('reversed',), ('sametips',), ('layings 278',), ('o..o.o', '.o..o.', '..o...')]
+>>> desk.do_all(["drop t", "show a", "drop t"])
+raises Misfit('name')
+>>> [desk.deeds, len(desk.worlds), desk.do("drop b"), desk.do("drop a"), len(desk.worlds)]
+[6, 3, ('left 2',), ('left 1',), 1]
+>>> desk.do("world t 3")
+raises Misfit('name')
+>>> desk.do("world b 0")
+raises BadNumber('many')
+>>> desk.do("row t 1 0 1")
+raises BadNumber('relation')
+>>> desk.do("table b 0 1 1")
+raises BadTable('rows')
+""",
+    ),
 )
 
 

@@ -109,6 +109,36 @@ FUNCTIONS = {
         "curried": "first, world, other, row",
         "uncurried": "first, world, other, row",
     },
+    "glued": {
+        "groupings": "many",
+        "grouping_of": "row",
+        "glued": "world, groups",
+        "count_one_to_one": "world, other",
+        "counts_glued": "world, other",
+    },
+    "testers": {
+        "testers": "world, other",
+        "counts_into": "world, others",
+        "judged_alike": "world, other",
+        "tester_of": "world, other, paper",
+    },
+    "check_testers": {"shows_alike": "world, other, value"},
+    "puzzles": {
+        "is_solution": "puzzle, value",
+        "solutions": "puzzle, most=300",
+        "puzzle_worlds": "puzzle",
+        "judged_puzzle": "puzzle",
+        "shows_puzzle": "puzzle, value",
+        "puzzle_of": "world, other",
+    },
+    "puzzle_texts": {"puzzle_text": "puzzle", "read_puzzle": "text"},
+    "puzzle_webs": {
+        "puzzle_webs": "puzzle, way",
+        "solution_laying": "puzzle, filling, way",
+        "solution_of": "puzzle, laying, way",
+    },
+    "pictures": {"web_picture": "web", "strip_picture": "code", "table_picture": "table"},
+    "reader": {"words_of": "line", "read_line": "line"},
 }
 CLASSES = {
     "papers": {"Paper": "self, word, *parts", "Denial": "self, word, *parts"},
@@ -154,6 +184,9 @@ CLASSES = {
     "houses": {"Housed": "self, still", "Restless": "self, room, moved", "House": "self, rooms, ways, rows"},
     "orders": {"Ordered": "self", "Adrift": "self, place", "Gap": "self, one, other, third"},
     "cores": {"Core": "self, places, row"},
+    "testers": {"Alike": "self, names", "Parted": "self, side, groups, one, other"},
+    "puzzles": {"Puzzle": "self, cells, size, clauses"},
+    "desk": {"Desk": "self"},
 }
 METHODS = {
     ("webs", "Web"): {
@@ -175,6 +208,8 @@ METHODS = {
         "then": "self, one, other",
         "between": "self, one, other",
     },
+    ("puzzles", "Puzzle"): {"__eq__": "self, other", "fails": "self, filling"},
+    ("desk", "Desk"): {"do": "self, line", "do_all": "self, lines"},
 }
 
 
