@@ -5,7 +5,7 @@ from justthese.clasps import Clasp, strip_clasp
 from justthese.errors import BadBox, NoBox, TooMany
 from justthese.layings import some_laying
 from justthese.papers import Denial, Paper
-from justthese.strips import good_codes, judged_strip
+from justthese.strips import good_codes
 
 MOST_KINDS = 75
 MOST_COMPARED = 12
@@ -38,9 +38,8 @@ def _are_clasps(value):
 
 def _codes_of(clasps):
     """The codes of the closed strips that clasps are, all of one number of letters; None if they are none."""
-    told = [judged_strip(clasp.web) for clasp in clasps]
-    codes = [paper.code for paper in told if paper]
-    if len(codes) < len(clasps) or len({len(code) for code in codes}) > 1:
+    codes = [clasp.code for clasp in clasps]
+    if None in codes or len({len(code) for code in codes}) > 1:
         return None
     return codes
 
@@ -52,9 +51,11 @@ def judged_box(clasps):
     codes = _codes_of(clasps)
     if codes is None and len(clasps) > MOST_COMPARED:
         raise TooMany("clasps", MOST_COMPARED)
+    if codes is not None and len(set(codes)) == len(codes):
+        # Of closed strips of as many letters just those of one code, or its reverse, have layings.
+        return Unlike()
     for one in range(len(clasps)):
         for other in range(len(clasps)):
-            # Of closed strips of as many letters just those of one code, or its reverse, have layings.
             if one != other and (codes is None or codes[one] == codes[other]):
                 laying = some_laying(clasps[one].web, clasps[other].web)
                 if laying is not None:

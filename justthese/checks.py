@@ -21,8 +21,13 @@ def is_row(value, many, below):
         return False
     if many is not None and len(value) != many:
         return False
-    most = None if below is None else below - 1
-    return all([is_within(item, 0, most) for item in value])
+    for item in value:
+        # Most items are plain integers, so these are asked soonest.
+        if type(item) != int and not is_integer(item):
+            return False
+        if item < 0 or (below is not None and item >= below):
+            return False
+    return True
 
 
 def is_code(value):

@@ -70,10 +70,13 @@ def _flat_ties(web):
     return [tie for tie in web.ties if tie not in held]
 
 
-def _judged(web, first, last):
-    """What is due for a web with two ends."""
+def _judged(web, first, last, code):
+    """What is due for a web with two ends, the closed strip of a code, renamed; None for the code if it is none."""
     if first == last or web.is_tied(first, last):
         return Tied(first, last)
+    if code is not None and judged_code(code):
+        # A closed strip with unlike tips that is not its own reverse has all that is asked further.
+        return Held()
     bare = [place for place in range(web.many) if len(web.beside(place)) == 0]
     if len(bare) > 0:
         return Bare(bare[0])
@@ -87,27 +90,38 @@ def _judged(web, first, last):
     return Held() if laying is None else Moving(laying)
 
 
-def judged_clasp(web, first, last):
-    """Whether a web with two ends is a clasp."""
+def _judged_with_code(web, first, last):
+    """Whether a web with two ends is a clasp, and the code if it is a closed strip, renamed, or None."""
     ask_web(web, "web")
     ask_number(first, "first", 0, web.many - 1)
     ask_number(last, "last", 0, web.many - 1)
-    if web.many > MOST_JUDGED and not judged_strip(web):
+    told = judged_strip(web)
+    if web.many > MOST_JUDGED and not told:
         raise TooMany("places", MOST_JUDGED)
-    return _judged(web, first, last)
+    code = told.code if told else None
+    return _judged(web, first, last, code), code
+
+
+def judged_clasp(web, first, last):
+    """Whether a web with two ends is a clasp."""
+    return _judged_with_code(web, first, last)[0]
 
 
 class Clasp:
-    """A web with two ends that is a clasp; the places other than the ends are its inner ones."""
+    """A web with two ends that is a clasp; the places other than the ends are its inner ones.
+
+    If the web is a closed strip, renamed, its code is kept, too; otherwise this is None.
+    """
 
     def __init__(self, web, first, last):
-        told = judged_clasp(web, first, last)
+        told, code = _judged_with_code(web, first, last)
         if not told:
             raise NoClasp(told)
         self.web = web
         self.first = first
         self.last = last
         self.inner = tuple([place for place in range(web.many) if place not in (first, last)])
+        self.code = code
 
     def __eq__(self, other):
         return type(self) is type(other) and (

@@ -10,11 +10,16 @@ MOST_SEARCHED = 24
 
 
 class Layer:
-    """The search for the layings of the clusters of a web into another one."""
+    """The search for the layings of the clusters of a web into another one.
 
-    def __init__(self, web, other):
+    If it is free, rows may come in any order; otherwise those of clusters of few places come as the search from
+    place to place tells them.
+    """
+
+    def __init__(self, web, other, free=False):
         self.web = web
         self.other = other
+        self.free = free
         self.masks = web_masks(other)
         self.sheets_at = None
         self.ground = None
@@ -22,7 +27,11 @@ class Layer:
 
     def laid(self, cluster, most):
         """The places of a cluster in some order, and the rows that they may get: all, or more than most."""
-        rows = self.quilted(cluster, most) if len(cluster) > MOST_SEARCHED else None
+        rows = None
+        if len(cluster) > MOST_SEARCHED:
+            rows = self.quilted(cluster, most)
+        elif self.free:
+            rows = self.quilted(cluster, most, True)
         if rows is not None:
             return list(cluster), rows
         order, behind = course(self.web, cluster)
@@ -38,23 +47,28 @@ class Layer:
                 self.sheets_at.setdefault(sheet[0][0], []).append(sheet)
         return [sheet for place in cluster for sheet in self.sheets_at.get(place, [])]
 
-    def quilted(self, cluster, most):
-        """The rows that a cluster of patches may get: all, or more than most; None if it is none, or too great."""
+    def quilted(self, cluster, most, just_strips=False):
+        """The rows that a cluster of patches (or just of strips) may get: all, or more than most.
+
+        None if it is none, or too great.
+        """
         patches = quilt_patches(self.sheets_of(cluster))
         if patches is None:
             return None
         if self.ground is None:
             self.ground = Ground(self.other)
+        if just_strips and not self.ground.are_strips(patches):
+            return None
         return quilted_rows(cluster, patches, self.ground, most)
 
 
-def laid_parts(web, other, most):
+def laid_parts(web, other, most, free=False):
     """For each cluster of a web its places, and the rows that they may get in another one: all, or more than most.
 
     Once there are more than most in all, one row stands for all rows of a cluster. Where a cluster has none,
-    it is the last one that is told.
+    it is the last one that is told. Rows that are free may be told in any order, which is sooner at times.
     """
-    layer = Layer(web, other)
+    layer = Layer(web, other, free)
     parts = []
     total = 1
     for cluster in clusters_of(web):

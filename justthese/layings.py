@@ -29,7 +29,8 @@ def layings(web, other, most=200):
     """All layings of a web into another one, at most so many."""
     _ask_webs(web, other)
     ask_number(most, "most", 1, MOST_LAYINGS)
-    parts = laid_parts(web, other, most)
+    # They are sorted in the end, so they may be found in any order.
+    parts = laid_parts(web, other, most, True)
     total = 1
     for _, rows in parts:
         total = total * len(rows)

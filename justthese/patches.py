@@ -11,6 +11,7 @@ from justthese.joining import joined_rows
 from justthese.marks import mark_of
 from justthese.masks import web_masks
 from justthese.sheets import sheet_web, sheets
+from justthese.strips import judged_code, judged_strip
 from justthese.webs import renamed_web
 
 LEAST_TIES = 3
@@ -42,8 +43,22 @@ def patches_of(told):
     return [Patch(sheet) for sheet in told if len(sheet) >= LEAST_TIES]
 
 
-def _rows_between(one, other, most):
-    """All layings of the web of a patch into that of another one, or more than most of them."""
+def _stiff_strip(web):
+    """What a web, as a closed strip whose only laying into itself is the still one, is; None if it is none."""
+    told = judged_strip(web)
+    return told if told and judged_code(told.code) else None
+
+
+def _rows_of_strips(one, other):
+    """All layings of one such strip into another one of as many letters: just one if they have one code."""
+    if one.code != other.code:
+        return []
+    image_of = {place: image for place, image in zip(one.names, other.names)}
+    return [[image_of[place] for place in range(len(one.names))]]
+
+
+def _searched_rows(one, other, most):
+    """All layings of the web of a patch into that of another one, or more than most of them, by a search."""
     order, behind = course(one.web, list(range(one.web.many)))
     rows = []
     for images in Search(order, behind, web_masks(other.web)).found_rows(most):
@@ -61,6 +76,25 @@ class Ground:
         for patch in patches_of(sheets(web)):
             self.by_pattern.setdefault(patch.pattern, []).append(patch)
         self.known = {}
+        self.strips = {}
+
+    def strip_of(self, patch):
+        """What the web of a patch is as a stiff strip, or None; worked out once for all patches of its pattern."""
+        if patch.pattern not in self.strips:
+            self.strips[patch.pattern] = _stiff_strip(patch.web)
+        return self.strips[patch.pattern]
+
+    def are_strips(self, patches):
+        """Whether all patches are stiff strips: then each has few layings, which are found soon."""
+        return None not in [self.strip_of(patch) for patch in patches]
+
+    def rows_between(self, one, other, most):
+        """All layings of the web of a patch into that of another one, or more than most of them."""
+        if one.web.many == other.web.many:
+            strip, there = self.strip_of(one), self.strip_of(other)
+            if strip is not None and there is not None:
+                return _rows_of_strips(strip, there)
+        return _searched_rows(one, other, most)
 
     def rows_for(self, patch):
         """All layings of a patch, as rows of images of its places; None if they are too many to be kept."""
@@ -72,7 +106,7 @@ class Ground:
         """All layings of a patch, worked out once for all patches of its pattern."""
         found = []
         for there in self.by_pattern.values():
-            rows = _rows_between(patch, there[0], MOST_PATCH_ROWS)
+            rows = self.rows_between(patch, there[0], MOST_PATCH_ROWS)
             if len(found) + len(rows) * len(there) > MOST_PATCH_ROWS:
                 return None
             found.extend([tuple([other.places[image] for image in row]) for other in there for row in rows])

@@ -5,7 +5,7 @@ from justthese.errors import Misfit
 from justthese.papers import Denial, Paper
 from justthese.sheets import triangles
 from justthese.triangle_rows import code_along, places_along, row_of_triangles
-from justthese.webs import Web, ask_web, renamed_web
+from justthese.webs import Web, ask_web
 
 MOST_GOOD_LETTERS = 10
 # The least and the greatest number of triangles of a closed strip: three letters at least, and 16 at most.
@@ -103,16 +103,19 @@ def strip(code):
     return Web(len(code) + 5, _ties_of(triangles_of(code)))
 
 
+def _touches(code):
+    """Whether a code touches: no two of its letters 1 are two or more letters apart."""
+    return code.rfind("1") - code.find("1") < 2
+
+
 def touching(code):
     """None if a code does not touch; otherwise the least two places because of which it does."""
     ask_code(code)
+    if not _touches(code):
+        return None
     web = strip(code)
     last = triangles_of(code)[-1]
-    for one in (1, 2):
-        for other in last[:2]:
-            if one == other or web.is_tied(one, other):
-                return one, other
-    return None
+    return min([(one, other) for one in (1, 2) for other in last[:2] if one == other or web.is_tied(one, other)])
 
 
 def _closed_triangles(code):
@@ -125,14 +128,25 @@ def _closed_triangles(code):
 def closed_strip(code):
     """The closed strip of a code."""
     ask_code(code)
-    if touching(code) is not None:
+    if _touches(code):
         raise Misfit("code")
     return Web(len(code) + 4, _ties_of(_closed_triangles(code)))
 
 
+def _last_colour(code):
+    """The colour of the last place of a strip, by those of hub and young place alone."""
+    hub, young = 0, 1
+    for letter in LEAD + code:
+        if letter == "1":
+            hub, young = young, 3 - hub - young
+        else:
+            young = 3 - hub - young
+    return 3 - hub - young
+
+
 def _is_good(code):
     """Whether a code is good."""
-    return code < code[::-1] and colours_of(code)[-1] != 0 and touching(code) is None
+    return code < code[::-1] and not _touches(code) and _last_colour(code) != 0
 
 
 def good_codes(letters):
@@ -158,15 +172,21 @@ def judged_code(code):
     return Stiff(colours)
 
 
-def _told_strips(web, row):
-    """The pair of a code and names by which a web is a closed strip with this row of triangles; none, or one."""
-    names = places_along(row)
-    if names[0] != names[-1] or not has_each_once(names[1:]):
-        return []
+def _told_strip(row):
+    """The code of a row of triangles and the names of its places, of both ways about the lesser ones."""
     code = code_along(row)
-    if touching(code) is not None or renamed_web(closed_strip(code), names[:-1]) != web:
-        return []
-    return [(code, tuple(names[:-1]))]
+    back = code[::-1]
+    if code == back:
+        return code, min(places_along(row), places_along(row[::-1]))
+    return (code, places_along(row)) if code < back else (back, places_along(row[::-1]))
+
+
+def _is_closed(code, names, told):
+    """Whether triangles are those of the closed strip of a code, its places being named as a strip's are."""
+    if names[0] != names[-1] or not has_each_once(names[1:]) or _touches(code):
+        return False
+    due = [tuple(sorted([names[place] for place in triangle])) for triangle in _closed_triangles(code)]
+    return sorted(due) == list(told)
 
 
 def judged_strip(web):
@@ -180,8 +200,5 @@ def judged_strip(web):
     row = row_of_triangles(told) if len(told) == due else None
     if row is None:
         return NoStrip()
-    found = _told_strips(web, row) + _told_strips(web, row[::-1])
-    if len(found) == 0:
-        return NoStrip()
-    code, names = min(found)
-    return Strip(code, names)
+    code, names = _told_strip(row)
+    return Strip(code, names[:-1]) if _is_closed(code, names, told) else NoStrip()

@@ -1,9 +1,17 @@
 """Triangles in a row, each with a tie in common with the next one: the places and the code that they tell."""
 
 
-def _shares_tie(one, other):
-    """Whether two triangles have two places in common."""
-    return len([place for place in one if place in other]) == 2
+def _neighbours(told):
+    """For each triangle those with which it has a tie in common."""
+    by_tie = {}
+    for k, (one, other, third) in enumerate(told):
+        for tie in ((one, other), (one, third), (other, third)):
+            by_tie.setdefault(tie, []).append(k)
+    near = [[] for _ in told]
+    for held in by_tie.values():
+        for k in held:
+            near[k].extend([other for other in held if other != k])
+    return near
 
 
 def row_of_triangles(told):
@@ -11,7 +19,7 @@ def row_of_triangles(told):
 
     The same row from its other end is the only other one.
     """
-    near = [[k for k, other in enumerate(told) if _shares_tie(one, other)] for one in told]
+    near = _neighbours(told)
     ends = [k for k, beside in enumerate(near) if len(beside) == 1]
     if len(ends) != 2 or max([len(beside) for beside in near]) > 2:
         return None

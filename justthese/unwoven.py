@@ -9,6 +9,7 @@ from justthese.marks import mark_of
 from justthese.papers import Denial, Paper
 from justthese.plans import ARROW_LENGTH
 from justthese.sheets import sheet_web, sheets
+from justthese.strips import judged_strip
 from justthese.webs import ask_web
 from justthese.worlds import MOST_PLACES, World
 
@@ -47,21 +48,29 @@ class Twice(Denial):
 
 
 class Kinds:
-    """The clasps of a box, by what a sheet shows of them soon."""
+    """The clasps of a box: closed strips by their codes, others by what a sheet shows of them soon."""
 
     def __init__(self, box):
         self.clasps = box.clasps
         self.sizes = {(clasp.web.many, len(clasp.web.ties)): True for clasp in box.clasps}
+        self.strips = {}
         self.marks = {}
         for kind, clasp in enumerate(box.clasps):
-            mark, _ = mark_of(clasp.web)
-            self.marks.setdefault(mark, []).append(kind)
+            if clasp.code is not None:
+                # No two clasps of a box have one code: then each would have a laying into the other.
+                self.strips[clasp.code] = (kind, judged_strip(clasp.web).names)
+            else:
+                mark, _ = mark_of(clasp.web)
+                self.marks.setdefault(mark, []).append(kind)
 
     def copy_of(self, sheet):
         """The pair of a kind and the places on which its places lie, if a sheet is a clasp, renamed; or None."""
         places, web = sheet_web(sheet)
         if (len(places), len(sheet)) not in self.sizes:
             return None
+        told = judged_strip(web)
+        if told:
+            return self.strip_copy(places, told)
         mark, _ = mark_of(web)
         for kind in self.marks.get(mark, []):
             # A clasp is stiff: if the sheet is one, renamed, there is no other laying than that renaming.
@@ -69,6 +78,16 @@ class Kinds:
             if laying is not None and has_each_once(laying):
                 return kind, tuple([places[place] for place in laying])
         return None
+
+    def strip_copy(self, places, told):
+        """The pair of a kind and the places on which its places lie, if a closed strip is a clasp, renamed; or None."""
+        if told.code not in self.strips:
+            return None
+        kind, names = self.strips[told.code]
+        copy = [0] * len(names)
+        for place, there in zip(names, told.names):
+            copy[place] = places[there]
+        return kind, tuple(copy)
 
     def arrow_of(self, kind, copy):
         """The arrow of a copy: its kind and its ends."""

@@ -13,7 +13,10 @@ def _are_ties(value, many):
     """Whether any value is a list of pairs of unlike places."""
     if not isinstance(value, (list, tuple)):
         return False
-    return all([is_row(tie, 2, many) and tie[0] != tie[1] for tie in value])
+    for tie in value:
+        if not is_row(tie, 2, many) or tie[0] == tie[1]:
+            return False
+    return True
 
 
 def _near_places(many, ties):
