@@ -4,6 +4,7 @@ from justthese.courses import Search, course
 from justthese.masks import web_masks
 from justthese.patches import Ground, quilt_patches, quilted_rows
 from justthese.sheets import clusters_of, sheets
+from justthese.stiff_strips import Strips, may_be_strips, strip_rows
 
 # In a cluster of no more places a search from place to place is short, and sheets may have many layings.
 MOST_SEARCHED = 24
@@ -22,22 +23,29 @@ class Layer:
         self.free = free
         self.masks = web_masks(other)
         self.sheets_at = None
+        self.strips = Strips()
         self.ground = None
         self.known = {}
 
     def laid(self, cluster, most):
         """The places of a cluster in some order, and the rows that they may get: all, or more than most."""
-        rows = None
-        if len(cluster) > MOST_SEARCHED:
-            rows = self.quilted(cluster, most)
-        elif self.free:
-            rows = self.quilted(cluster, most, True)
+        rows = self.joined(cluster, most)
         if rows is not None:
             return list(cluster), rows
         order, behind = course(self.web, cluster)
         if behind not in self.known:
             self.known[behind] = Search(order, behind, self.masks).found_rows(most)
         return order, self.known[behind]
+
+    def joined(self, cluster, most):
+        """The rows that a cluster may get, told by its sheets: all, or more than most; None if a search is better."""
+        if len(cluster) == self.web.many and len(cluster) == self.other.many:
+            rows = strip_rows(self.web, self.other)
+            if rows is not None:
+                return rows
+        if len(cluster) > MOST_SEARCHED:
+            return self.quilted(cluster, most)
+        return self.quilted_strips(cluster, most) if self.free else None
 
     def sheets_of(self, cluster):
         """The sheets of a cluster."""
@@ -47,18 +55,24 @@ class Layer:
                 self.sheets_at.setdefault(sheet[0][0], []).append(sheet)
         return [sheet for place in cluster for sheet in self.sheets_at.get(place, [])]
 
-    def quilted(self, cluster, most, just_strips=False):
-        """The rows that a cluster of patches (or just of strips) may get: all, or more than most.
+    def quilted(self, cluster, most):
+        """The rows that a cluster of patches may get: all, or more than most; None if it is none, or too great."""
+        told = self.sheets_of(cluster)
+        patches = quilt_patches(told) if len(told) > 1 else None
+        return self.rows_by(cluster, patches, most) if patches is not None else None
 
-        None if it is none, or too great.
-        """
-        patches = quilt_patches(self.sheets_of(cluster))
-        if patches is None:
+    def quilted_strips(self, cluster, most):
+        """The rows that a cluster of stiff strips, one or more, may get: all, or more than most; None if it is none."""
+        told = self.sheets_of(cluster)
+        patches = quilt_patches(told) if len(told) > 0 and may_be_strips(told) else None
+        if patches is None or not self.strips.are_strips(patches):
             return None
+        return self.rows_by(cluster, patches, most)
+
+    def rows_by(self, cluster, patches, most):
+        """The rows that a cluster of these patches may get: all, or more than most; None if that asks for too much."""
         if self.ground is None:
-            self.ground = Ground(self.other)
-        if just_strips and not self.ground.are_strips(patches):
-            return None
+            self.ground = Ground(self.other, self.strips)
         return quilted_rows(cluster, patches, self.ground, most)
 
 

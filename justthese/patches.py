@@ -11,7 +11,6 @@ from justthese.joining import joined_rows
 from justthese.marks import mark_of
 from justthese.masks import web_masks
 from justthese.sheets import sheet_web, sheets
-from justthese.strips import judged_code, judged_strip
 from justthese.webs import renamed_web
 
 LEAST_TIES = 3
@@ -43,20 +42,6 @@ def patches_of(told):
     return [Patch(sheet) for sheet in told if len(sheet) >= LEAST_TIES]
 
 
-def _stiff_strip(web):
-    """What a web, as a closed strip whose only laying into itself is the still one, is; None if it is none."""
-    told = judged_strip(web)
-    return told if told and judged_code(told.code) else None
-
-
-def _rows_of_strips(one, other):
-    """All layings of one such strip into another one of as many letters: just one if they have one code."""
-    if one.code != other.code:
-        return []
-    image_of = {place: image for place, image in zip(one.names, other.names)}
-    return [[image_of[place] for place in range(len(one.names))]]
-
-
 def _searched_rows(one, other, most):
     """All layings of the web of a patch into that of another one, or more than most of them, by a search."""
     order, behind = course(one.web, list(range(one.web.many)))
@@ -70,31 +55,13 @@ def _searched_rows(one, other, most):
 class Ground:
     """A web into which patches are laid."""
 
-    def __init__(self, web):
+    def __init__(self, web, strips):
         self.many = web.many
+        self.strips = strips
         self.by_pattern = {}
         for patch in patches_of(sheets(web)):
             self.by_pattern.setdefault(patch.pattern, []).append(patch)
         self.known = {}
-        self.strips = {}
-
-    def strip_of(self, patch):
-        """What the web of a patch is as a stiff strip, or None; worked out once for all patches of its pattern."""
-        if patch.pattern not in self.strips:
-            self.strips[patch.pattern] = _stiff_strip(patch.web)
-        return self.strips[patch.pattern]
-
-    def are_strips(self, patches):
-        """Whether all patches are stiff strips: then each has few layings, which are found soon."""
-        return None not in [self.strip_of(patch) for patch in patches]
-
-    def rows_between(self, one, other, most):
-        """All layings of the web of a patch into that of another one, or more than most of them."""
-        if one.web.many == other.web.many:
-            strip, there = self.strip_of(one), self.strip_of(other)
-            if strip is not None and there is not None:
-                return _rows_of_strips(strip, there)
-        return _searched_rows(one, other, most)
 
     def rows_for(self, patch):
         """All layings of a patch, as rows of images of its places; None if they are too many to be kept."""
@@ -106,7 +73,9 @@ class Ground:
         """All layings of a patch, worked out once for all patches of its pattern."""
         found = []
         for there in self.by_pattern.values():
-            rows = self.rows_between(patch, there[0], MOST_PATCH_ROWS)
+            rows = self.strips.rows_between(patch, there[0])
+            if rows is None:
+                rows = _searched_rows(patch, there[0], MOST_PATCH_ROWS)
             if len(found) + len(rows) * len(there) > MOST_PATCH_ROWS:
                 return None
             found.extend([tuple([other.places[image] for image in row]) for other in there for row in rows])
@@ -179,8 +148,8 @@ class Quilt:
 
 
 def quilt_patches(told):
-    """The patches of a cluster with these sheets; None if there is just one, a flat one or one of many places."""
-    if len(told) < 2 or min([len(sheet) for sheet in told]) < LEAST_TIES:
+    """The patches of a cluster with these sheets; None if there is none, a flat one or one of many places."""
+    if len(told) == 0 or min([len(sheet) for sheet in told]) < LEAST_TIES:
         return None
     patches = patches_of(told)
     return patches if max([patch.web.many for patch in patches]) <= MOST_PATCH_PLACES else None
@@ -191,6 +160,9 @@ def quilted_rows(cluster, patches, ground, most):
     patterns = {patch.pattern: True for patch in patches}
     if len(patterns) * len(ground.by_pattern) > MOST_PATTERN_PAIRS:
         return None
-    if None in [ground.rows_for(patch) for patch in patches]:
+    known = [ground.rows_for(patch) for patch in patches]
+    if None in known:
         return None
+    if [] in known:
+        return []
     return Quilt(patches, ground).rows_on(cluster, most)

@@ -1,19 +1,23 @@
 """Strip boxes and webs of worlds: tie by tie as before, asked again too, and soon."""
 
 import hashlib
+import random
 import unittest
+from math import prod
 
 from justthese.boxes import Box, strip_box
 from justthese.clasps import strip_clasp
+from justthese.joining import joined_rows
+from justthese.laid import laid_parts
 from justthese.layings import is_stiff, layings
 from justthese.lots import completed, lot_web
 from justthese.strips import closed_strip, colours_of, good_codes, judged_code, judged_strip, touching
 from justthese.unwoven import judged_woven
-from justthese.webs import Web
+from justthese.webs import Web, renamed_web
 from justthese.worlds import World
 from justthese.world_webs import web_of
 from justthese.woven import all_layings
-from tests.helpers import all_codes, spaced, spread_plan, timed, woven_web
+from tests.helpers import all_codes, shuffled, some_arrows, some_web, spaced, spread_plan, timed, woven_web
 
 LONG = World([8], 8, [[(0, 1, 2, 3, 4, 5, 6, 7)]])
 MIXED = World([3, 2], 3, [[(0, 1, 2), (1, 2, 0)], [(0, 2)]])
@@ -100,10 +104,10 @@ class Webs(unittest.TestCase):
         self.assertEqual((len(woven.web), len(woven.web.ties), len(woven.box)), (places, ties, kinds))
         self.assertTrue(woven.world == spread_plan(world))
         self.assertTrue(woven.box == strip_box(kinds))
-        told = tuple((kind, one, other) for kind, rows in enumerate(woven.world.rows) for one, other in rows)
-        self.assertEqual(woven.arrows, told)
-        self.assertTrue(woven.web == woven_web(woven.world.many, told, woven.box.clasps))
-        self.assertEqual(len(woven.copies), len(told))
+        due_arrows = tuple((kind, one, other) for kind, rows in enumerate(woven.world.rows) for one, other in rows)
+        self.assertEqual(woven.arrows, due_arrows)
+        self.assertTrue(woven.web == woven_web(woven.world.many, due_arrows, woven.box.clasps))
+        self.assertEqual(len(woven.copies), len(due_arrows))
         for (kind, one, other), copy in zip(woven.arrows, woven.copies):
             clasp = woven.box.clasps[kind]
             self.assertEqual((copy[clasp.first], copy[clasp.last]), (one, other))
@@ -137,6 +141,48 @@ class Webs(unittest.TestCase):
 
 class Mixed(unittest.TestCase):
     """Strips beside sheets that are none: clusters of few places, and of more."""
+
+    def is_same(self, web, other, most):
+        """Asks what sheets tell beside what a search from place to place tells."""
+        told = {}
+        for free in (False, True):
+            parts = laid_parts(web, other, most, free)
+            if min(len(rows) for _, rows in parts) == 0:
+                told[free] = ()
+            else:
+                total = prod(len(rows) for _, rows in parts)
+                rows = {tuple(row) for row in joined_rows(web.many, parts)} if total <= most else None
+                told[free] = tuple(sorted(rows)) if rows is not None else "many"
+        self.assertEqual(told[False], told[True])
+        return told[True]
+
+    def some_webs(self, chance):
+        """Webs of strips of several numbers of letters, renamed, alone, woven, and beside other sheets."""
+        codes = [code for letters in (3, 4, 5) for code in all_codes(letters) if spaced(code)]
+        strips = [closed_strip(chance.choice(codes)) for _ in range(3)]
+        stiff = [strip_clasp(chance.choice(good_codes(letters))) for letters in (4, 5)]
+        yield from strips
+        yield from (clasp.web for clasp in stiff)
+        for clasps in (stiff, stiff[:1]):
+            yield woven_web(3, some_arrows(chance, 3, len(clasps), 2), clasps)
+            yield woven_web(4, some_arrows(chance, 4, len(clasps), 5), clasps)
+        one, two = stiff[0].web, strips[0]
+        ties = [(x + one.many - 1, y + one.many - 1) for x, y in two.ties]
+        yield Web(one.many + two.many - 1, [*one.ties, *ties])
+        yield Web(one.many + 3, [*one.ties, (0, one.many), (0, one.many + 1), (one.many, one.many + 1)])
+        yield Web(2 * one.many, [*one.ties, *[(x + one.many, y + one.many) for x, y in one.ties]])
+        yield some_web(chance, 9, 0.6)
+
+    def test_sheets_beside_a_search(self):
+        chance = random.Random(1)
+        found = []
+        for _ in range(12):
+            webs = [renamed_web(web, shuffled(chance, web.many)) for web in self.some_webs(chance)]
+            for web in webs:
+                for other in chance.sample(webs, 5) + [web]:
+                    told = self.is_same(web, other, chance.choice([1, 5, 1000]))
+                    found.append("many" if told == "many" else min(len(told), 3))
+        self.assertEqual(sorted(set(map(str, found))), ["0", "1", "2", "3", "many"])
 
     def test_clusters_with_a_sheet_that_is_no_strip(self):
         strip, many = closed_strip("0101"), 8
