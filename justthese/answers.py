@@ -33,30 +33,36 @@ def _strikes_of(paper):
 
 
 def _show(world):
+    """The lines of the text of a world."""
     return tuple(world_text(world).split("\n"))
 
 
 def _maps(world, other):
+    """How many maps of a world into another one there are, and each of them."""
     rows = maps(world, other, MOST_MAPS_TOLD)
     return (f"maps {len(rows)}",) + tuple([_spaced(row) for row in rows])
 
 
 def _why(world, other):
+    """A map of a world into another one, or how many strikes show that there is none."""
     paper = judged_map(world, other)
     return (f"map {_spaced(paper.row)}",) if paper else (f"none {_strikes_of(paper)}",)
 
 
 def _web(world, way):
+    """How great the web of a world is, by a way."""
     woven = web_of(world, way)
     return (f"places {len(woven.web)} ties {len(woven.web.ties)} kinds {len(woven.box)}",)
 
 
 def _layings(world, other, way):
+    """How many layings of the web of a world into that of another one there are, by a way."""
     rows = all_layings(web_of(world, way), web_of(other, way), MOST_LAYINGS_TOLD)
     return (f"layings {len(rows)}",)
 
 
 def _same(world, other):
+    """Whether two worlds are alike, by which names, or by which numbers they are told apart."""
     paper = judged_alike(world, other)
     if paper:
         return (f"alike {_spaced(paper.names)}",)
@@ -64,14 +70,17 @@ def _same(world, other):
 
 
 def _core(world):
+    """The places of a core of a world."""
     return (f"core {_spaced(judged_core(world).places)}",)
 
 
 def _picture(world, way):
+    """The picture of the web of a world, by a way."""
     return web_picture(web_of(world, way).web)
 
 
 def _code(code):
+    """Whether the closed strip of a code is stiff, and if not, why."""
     paper = judged_code(code)
     if paper.word == "touching":
         return (f"touching {paper.one} {paper.other}",)
@@ -79,10 +88,12 @@ def _code(code):
 
 
 def _into(code, other):
+    """How many layings of the closed strip of a code into that of another one there are."""
     return (f"layings {count_layings(code, closed_strip(other))}",)
 
 
 def _strip(code):
+    """The picture of the strip of a code."""
     return strip_picture(code)
 
 

@@ -44,7 +44,8 @@ def _new_table(_, name, counts):
 
 def _made_of_two(name, world):
     """A world that is made of two, with its size."""
-    return name, world, f"places {world.many} rows {sum([len(rows) for rows in world.rows])}"
+    many_rows = sum([len(rows) for rows in world.rows])
+    return name, world, f"places {world.many} rows {many_rows}"
 
 
 def _new_sum(kept, one, other, name):
