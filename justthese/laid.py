@@ -8,6 +8,8 @@ from justthese.stiff_strips import Strips, may_be_strips, strip_rows
 
 # In a cluster of no more places a search from place to place is short, and sheets may have many layings.
 MOST_SEARCHED = 24
+# Webs of closed strips have less than three ties for each place; where there are more, a search has much to find soon.
+MOST_TIES_A_PLACE = 3
 
 
 class Layer:
@@ -63,6 +65,8 @@ class Layer:
 
     def quilted_strips(self, cluster, most):
         """The rows that a cluster of stiff strips, one or more, may get: all, or more than most; None if it is none."""
+        if len(self.other.ties) > MOST_TIES_A_PLACE * self.other.many:
+            return None
         told = self.sheets_of(cluster)
         patches = quilt_patches(told) if len(told) > 0 and may_be_strips(told) else None
         if patches is None or not self.strips.are_strips(patches):
