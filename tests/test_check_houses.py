@@ -147,12 +147,13 @@ class Ways(unittest.TestCase):
         self.assertIs(shows_house(*PORCH, Triple(0, 1, 0)), False)
 
     def test_errors(self):
-        for value in (None, True, 0, 9, "1"):
-            self.assertEqual(raised(shows_house, value, None, None, Housed([0])), ("BadNumber", "rooms"))
-        for value in BAD_WAYS:
-            self.assertEqual(raised(shows_house, 2, value, None, Housed([0])), ("BadHouse", "ways"))
-        for value in [*WRONG, [], PORCH[2][:2]]:
-            self.assertEqual(raised(shows_house, 2, PORCH[1], value, Housed([0])), ("BadHouse", "rows"))
+        for paper in (Housed([0]), Restless(0, []), Triple(0, 0, 0), None):
+            for value in (None, True, 0, 9, "1"):
+                self.assertEqual(raised(shows_house, value, None, None, paper), ("BadNumber", "rooms"))
+            for value in BAD_WAYS:
+                self.assertEqual(raised(shows_house, 2, value, None, paper), ("BadHouse", "ways"))
+            for value in [*WRONG, [], PORCH[2][:2]]:
+                self.assertEqual(raised(shows_house, 2, PORCH[1], value, paper), ("BadHouse", "rows"))
         self.assertIs(shows_house(value=Housed([0, 2]), rows=PORCH[2], ways=PORCH[1], rooms=2), True)
 
     def test_short_time(self):
@@ -204,7 +205,8 @@ class Orders(unittest.TestCase):
 
     def test_errors(self):
         for value in BAD:
-            self.assertEqual(raised(shows_order, value, Ordered()), ("BadPairs", "rows"))
+            for paper in (Ordered(), Adrift(0), Gap(0, 0, 0), None):
+                self.assertEqual(raised(shows_order, value, paper), ("BadPairs", "rows"))
 
 
 if __name__ == "__main__":

@@ -49,6 +49,15 @@ class Checks(unittest.TestCase):
             self.assertIs(is_row([0, value], 2, 5), False)
             self.assertIs(is_row([value], None, None), False)
 
+    def test_integers_of_a_class_below(self):
+        class Whole(int):
+            pass
+
+        self.assertIs(is_integer(Whole(2)), True)
+        self.assertIs(is_row([0, Whole(2)], 2, 3), True)
+        self.assertIs(is_row([0, Whole(2)], 2, 2), False)
+        self.assertIs(is_row([Whole(-1)], None, None), False)
+
     def test_is_code(self):
         for value in ("", "0", "1", "0110", "1" * 16):
             self.assertIs(is_code(value), True)

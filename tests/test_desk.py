@@ -382,6 +382,18 @@ class Lines(unittest.TestCase):
                 self.fails(desk, f"into {one} {other}", ("Misfit", "code"))
         self.assertEqual(desk.deeds, 0)
 
+    def test_strikes_within_cases_are_counted(self):
+        # Of four places all in rows with one another there is no map into three: cases stand within cases.
+        lines = []
+        for name, many in (("a", 4), ("b", 3)):
+            lines += [f"world {name} {many}", f"relation {name} 2"]
+            lines += [f"row {name} 0 {x} {y}" for x, y in itertools.permutations(range(many), 2)]
+        desk = self.desk(*lines)
+        paper = judged_map(*[world for _, world in desk.worlds])
+        self.assertTrue(any(cases for _, (_, _, cases) in paper.cases))
+        self.assertEqual(desk.do("why a b"), (f"none {strikes_of(paper.parts)}",))
+        self.assertEqual(desk.do("why b a"), (f"map {spaced(judged_map(desk.worlds[1][1], desk.worlds[0][1]).row)}",))
+
     def test_what_the_functions_raise(self):
         desk = self.desk("world a 6", "world b 4", "relation b 3", "world c 3", "world d 2", "relation d 2", "world e 10")
         self.assertEqual(desk.do("maps c a")[0], "maps 216")
